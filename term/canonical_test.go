@@ -5,6 +5,7 @@ import (
 	"testing"
 
 	"lemmary/api"
+	"lemmary/sample"
 	"lemmary/term"
 )
 
@@ -17,10 +18,10 @@ func TestCanonical(t *testing.T) {
 		{api.Term{0, -12, 0, -11, 0, -10, 0, -9, 0, -8, 0, -7, 0, -6, 0, -5, 0, -4, 0, -3, 0, -2, -1}, api.Term{0, -1, 0, -2, 0, -3, 0, -4, 0, -5, 0, -6, 0, -7, 0, -8, 0, -9, 0, -10, 0, -11, -12}},
 	}
 	for _, test := range tests {
-		if form, e := term.Canonical(sign(), test.u); !slices.Equal(form, test.form) || e != api.OK {
+		if form, e := term.Canonical(sample.Sign(), test.u); !slices.Equal(form, test.form) || e != api.OK {
 			t.Errorf("Canonical(%v) = %v, %d", test.u, form, e)
 		}
-		if term.IsCanonical(sign(), test.u) != slices.Equal(test.u, test.form) || !term.IsCanonical(sign(), test.form) {
+		if term.IsCanonical(sample.Sign(), test.u) != slices.Equal(test.u, test.form) || !term.IsCanonical(sample.Sign(), test.form) {
 			t.Errorf("IsCanonical(%v) or (%v)", test.u, test.form)
 		}
 	}
@@ -28,7 +29,7 @@ func TestCanonical(t *testing.T) {
 
 // 1.2: a canonical term has the variables 0, 1, 2, ... in this order.
 func TestIsCanonicalByVars(t *testing.T) {
-	s := sign()
+	s := sample.Sign()
 	for _, u := range terms() {
 		vars, e := term.Vars(s, u)
 		want := true
@@ -43,7 +44,7 @@ func TestIsCanonicalByVars(t *testing.T) {
 
 // P1.2
 func TestCanonicalForm(t *testing.T) {
-	s := sign()
+	s := sample.Sign()
 	for _, u := range terms() {
 		form, e := term.Canonical(s, u)
 		again, f := term.Canonical(s, form)
@@ -64,7 +65,7 @@ func TestAlike(t *testing.T) {
 		{api.Term{1, -1}, api.Term{-1}, false}, {api.Term{0, -1, 2}, api.Term{0, 2, -1}, false},
 	}
 	for _, test := range tests {
-		if term.Alike(sign(), test.a, test.b) != test.alike || term.Alike(sign(), test.b, test.a) != test.alike {
+		if term.Alike(sample.Sign(), test.a, test.b) != test.alike || term.Alike(sample.Sign(), test.b, test.a) != test.alike {
 			t.Errorf("Alike(%v, %v) is not %v", test.a, test.b, test.alike)
 		}
 	}
@@ -86,7 +87,7 @@ func swapped(t api.Term, v, w int) api.Term {
 
 // P1.2: alike is reflexive and follows renamings, there and back.
 func TestAlikeOfRenamed(t *testing.T) {
-	s := sign()
+	s := sample.Sign()
 	for _, u := range terms() {
 		if !term.Alike(s, u, u) {
 			t.Errorf("%v is not alike itself", u)
@@ -101,7 +102,7 @@ func TestAlikeOfRenamed(t *testing.T) {
 // P1.2: alike is symmetric and transitive, and tells what Canonical tells.
 func TestAlikeIsAnEquivalence(t *testing.T) {
 	s := api.Sign{{Name: "C", Arity: 2}, {Name: "T"}}
-	all := smallTerms(s, 5)
+	all := sample.SmallTerms(s, 5, 11, 1, 0)
 	for _, a := range all {
 		form, _ := term.Canonical(s, a)
 		for _, b := range all {
@@ -121,10 +122,10 @@ func TestAlikeIsAnEquivalence(t *testing.T) {
 func TestShape(t *testing.T) {
 	tests := []struct{ u, shape api.Term }{
 		{api.Term{-12}, api.Term{-1}}, {api.Term{2}, api.Term{2}}, {api.Term{0, -3, 1, -1}, api.Term{0, -1, 1, -1}},
-		{api.Term{3, -1, 0, -2, -3, 2}, api.Term{3, -1, 0, -1, -1, 2}}, {tower(60), tower(60)},
+		{api.Term{3, -1, 0, -2, -3, 2}, api.Term{3, -1, 0, -1, -1, 2}}, {sample.Tower(60), sample.Tower(60)},
 	}
 	for _, test := range tests {
-		if shape, e := term.Shape(sign(), test.u); !slices.Equal(shape, test.shape) || e != api.OK {
+		if shape, e := term.Shape(sample.Sign(), test.u); !slices.Equal(shape, test.shape) || e != api.OK {
 			t.Errorf("Shape(%v) = %v, %d", test.u, shape, e)
 		}
 	}
@@ -132,13 +133,13 @@ func TestShape(t *testing.T) {
 
 // 1.2: false for wrong arguments.
 func TestFormsOfWrongArguments(t *testing.T) {
-	s, u := sign(), api.Term{-1}
-	for _, wrong := range wrongTerms() {
+	s, u := sample.Sign(), api.Term{-1}
+	for _, wrong := range sample.WrongTerms() {
 		if term.IsCanonical(s, wrong) || term.Alike(s, wrong, wrong) || term.Alike(s, u, wrong) || term.Alike(s, wrong, u) {
 			t.Errorf("the wrong term %v", wrong)
 		}
 	}
-	for _, wrong := range wrongSigns() {
+	for _, wrong := range sample.WrongSigns() {
 		if term.IsCanonical(wrong, u) || term.Alike(wrong, u, u) {
 			t.Errorf("the wrong sign %v", wrong)
 		}

@@ -6,6 +6,7 @@ import (
 	"testing"
 
 	"lemmary/api"
+	"lemmary/sample"
 	"lemmary/term"
 )
 
@@ -24,10 +25,10 @@ func TestArgs(t *testing.T) {
 		args []api.Term
 	}{
 		{api.Term{-4}, nil}, {api.Term{2}, nil}, {api.Term{1, -2}, []api.Term{{-2}}}, {api.Term{0, -1, 0, -2, -1}, []api.Term{{-1}, {0, -2, -1}}},
-		{api.Term{3, 2, 1, -1, 0, 2, 1, -1}, []api.Term{{2}, {1, -1}, {0, 2, 1, -1}}}, {tower(60), []api.Term{tower(59)}},
+		{api.Term{3, 2, 1, -1, 0, 2, 1, -1}, []api.Term{{2}, {1, -1}, {0, 2, 1, -1}}}, {sample.Tower(60), []api.Term{sample.Tower(59)}},
 	}
 	for _, test := range tests {
-		if args, e := term.Args(sign(), test.u); !sameTerms(args, test.args) || e != api.OK {
+		if args, e := term.Args(sample.Sign(), test.u); !sameTerms(args, test.args) || e != api.OK {
 			t.Errorf("Args(%v) = %v, %d", test.u, args, e)
 		}
 	}
@@ -35,17 +36,17 @@ func TestArgs(t *testing.T) {
 
 // 1.3
 func TestBuilt(t *testing.T) {
-	big := tower(59)
+	big := sample.Tower(59)
 	tests := []struct {
 		symbol int
 		args   []api.Term
 		want   api.Term
 	}{
 		{2, nil, api.Term{2}}, {1, []api.Term{{-3}}, api.Term{1, -3}}, {0, []api.Term{{-3}, {1, 2}}, api.Term{0, -3, 1, 2}},
-		{3, []api.Term{{-1}, {2}, {0, 2, -1}}, api.Term{3, -1, 2, 0, 2, -1}}, {1, []api.Term{big}, tower(60)}, {0, []api.Term{tower(58), {-1}}, append(api.Term{0}, append(tower(58), -1)...)},
+		{3, []api.Term{{-1}, {2}, {0, 2, -1}}, api.Term{3, -1, 2, 0, 2, -1}}, {1, []api.Term{big}, sample.Tower(60)}, {0, []api.Term{sample.Tower(58), {-1}}, append(api.Term{0}, append(sample.Tower(58), -1)...)},
 	}
 	for _, test := range tests {
-		if u, e := term.Built(sign(), test.symbol, test.args); !slices.Equal(u, test.want) || e != api.OK {
+		if u, e := term.Built(sample.Sign(), test.symbol, test.args); !slices.Equal(u, test.want) || e != api.OK {
 			t.Errorf("Built(%d, %v) = %v, %d", test.symbol, test.args, u, e)
 		}
 	}
@@ -53,19 +54,19 @@ func TestBuilt(t *testing.T) {
 
 // 1.3: the errors of Built, and which of several comes first.
 func TestBuiltErrors(t *testing.T) {
-	u, wrong, big := api.Term{-1}, api.Term{0}, tower(60)
+	u, wrong, big := api.Term{-1}, api.Term{0}, sample.Tower(60)
 	tests := []struct {
 		symbol int
 		args   []api.Term
 		want   api.Errno
 	}{
-		{4, []api.Term{wrong}, api.ErrInvalid}, {1, []api.Term{wrong, u}, api.ErrInvalid}, {1, []api.Term{u, wrong}, api.ErrInvalid}, {0, []api.Term{big, tower(61)}, api.ErrInvalid}, {1, []api.Term{nil}, api.ErrInvalid},
+		{4, []api.Term{wrong}, api.ErrInvalid}, {1, []api.Term{wrong, u}, api.ErrInvalid}, {1, []api.Term{u, wrong}, api.ErrInvalid}, {0, []api.Term{big, sample.Tower(61)}, api.ErrInvalid}, {1, []api.Term{nil}, api.ErrInvalid},
 		{4, nil, api.ErrName}, {-1, nil, api.ErrName}, {4, []api.Term{u, u, u, u}, api.ErrName}, {math.MinInt, nil, api.ErrName}, {math.MaxInt, []api.Term{big, big}, api.ErrName},
 		{0, nil, api.ErrSize}, {0, []api.Term{u}, api.ErrSize}, {0, []api.Term{u, u, u}, api.ErrSize}, {2, []api.Term{u}, api.ErrSize}, {1, []api.Term{big, big}, api.ErrSize}, {3, slices.Repeat([]api.Term{u}, 100000), api.ErrSize},
-		{1, []api.Term{big}, api.ErrLimit}, {0, []api.Term{u, tower(59)}, api.ErrLimit}, {3, []api.Term{tower(58), u, u}, api.ErrLimit}, {3, []api.Term{big, big, big}, api.ErrLimit},
+		{1, []api.Term{big}, api.ErrLimit}, {0, []api.Term{u, sample.Tower(59)}, api.ErrLimit}, {3, []api.Term{sample.Tower(58), u, u}, api.ErrLimit}, {3, []api.Term{big, big, big}, api.ErrLimit},
 	}
 	for _, test := range tests {
-		if got, e := term.Built(sign(), test.symbol, test.args); e != test.want || len(got) != 0 {
+		if got, e := term.Built(sample.Sign(), test.symbol, test.args); e != test.want || len(got) != 0 {
 			t.Errorf("Built(%d, %d terms) = %v, %d, not %d", test.symbol, len(test.args), got, e, test.want)
 		}
 	}
@@ -73,7 +74,7 @@ func TestBuiltErrors(t *testing.T) {
 
 // P1.3: a term is built of its symbol and its arguments.
 func TestBuiltOfArgs(t *testing.T) {
-	s := sign()
+	s := sample.Sign()
 	for _, u := range terms() {
 		args, e := term.Args(s, u)
 		if u[0] < 0 {
@@ -100,11 +101,11 @@ func TestAt(t *testing.T) {
 		{[]int{2}, api.Term{0, 2, 1, -1}}, {[]int{2, 0}, api.Term{2}}, {[]int{2, 1}, api.Term{1, -1}}, {[]int{2, 1, 0}, api.Term{-1}},
 	}
 	for _, test := range tests {
-		if part, e := term.At(sign(), f, test.path); !slices.Equal(part, test.part) || e != api.OK {
+		if part, e := term.At(sample.Sign(), f, test.path); !slices.Equal(part, test.part) || e != api.OK {
 			t.Errorf("At(%v) = %v, %d", test.path, part, e)
 		}
 	}
-	if part, e := term.At(sign(), tower(60), make([]int, 59)); !slices.Equal(part, api.Term{2}) || e != api.OK {
+	if part, e := term.At(sample.Sign(), sample.Tower(60), make([]int, 59)); !slices.Equal(part, api.Term{2}) || e != api.OK {
 		t.Errorf("At of a tower = %v, %d", part, e)
 	}
 }
@@ -117,16 +118,16 @@ func wrongPaths() [][]int {
 func TestNoSuchPath(t *testing.T) {
 	f := api.Term{3, 2, 1, -1, 0, 2, 1, -1}
 	for _, path := range wrongPaths() {
-		if part, e := term.At(sign(), f, path); e != api.ErrNone || len(part) != 0 {
+		if part, e := term.At(sample.Sign(), f, path); e != api.ErrNone || len(part) != 0 {
 			t.Errorf("At(%v) = %v, %d", path, part, e)
 		}
-		if u, e := term.Put(sign(), f, path, tower(60)); e != api.ErrNone || len(u) != 0 {
+		if u, e := term.Put(sample.Sign(), f, path, sample.Tower(60)); e != api.ErrNone || len(u) != 0 {
 			t.Errorf("Put(%v) = %v, %d", path, u, e)
 		}
-		if u, e := term.At(sign(), api.Term{0}, path); e != api.ErrInvalid || len(u) != 0 {
+		if u, e := term.At(sample.Sign(), api.Term{0}, path); e != api.ErrInvalid || len(u) != 0 {
 			t.Errorf("At(%v) of a wrong term = %v, %d", path, u, e)
 		}
-		if u, e := term.Put(sign(), f, path, tower(61)); e != api.ErrInvalid || len(u) != 0 {
+		if u, e := term.Put(sample.Sign(), f, path, sample.Tower(61)); e != api.ErrInvalid || len(u) != 0 {
 			t.Errorf("Put(%v) of a wrong term = %v, %d", path, u, e)
 		}
 	}
@@ -134,7 +135,7 @@ func TestNoSuchPath(t *testing.T) {
 
 // 1.3: At leads to each part, and to nothing else.
 func TestAtOfAllPaths(t *testing.T) {
-	s := sign()
+	s := sample.Sign()
 	for _, u := range terms() {
 		for _, path := range paths(s, u) {
 			want := partAt(s, u, path)
@@ -156,7 +157,7 @@ func TestAtOfAllPaths(t *testing.T) {
 
 // P1.3: At of a term's argument is an argument's At.
 func TestAtOfArgument(t *testing.T) {
-	s := sign()
+	s := sample.Sign()
 	for _, u := range terms() {
 		args, _ := term.Args(s, u)
 		for _, path := range paths(s, u) {
@@ -179,12 +180,12 @@ func TestPut(t *testing.T) {
 		path    []int
 		u, want api.Term
 	}{
-		{nil, api.Term{-7}, api.Term{-7}}, {nil, tower(60), tower(60)}, {[]int{0}, api.Term{-12}, api.Term{3, -12, 1, -1, 0, 2, 1, -1}},
+		{nil, api.Term{-7}, api.Term{-7}}, {nil, sample.Tower(60), sample.Tower(60)}, {[]int{0}, api.Term{-12}, api.Term{3, -12, 1, -1, 0, 2, 1, -1}},
 		{[]int{1}, api.Term{0, -2, -2}, api.Term{3, 2, 0, -2, -2, 0, 2, 1, -1}}, {[]int{2}, api.Term{-1}, api.Term{3, 2, 1, -1, -1}},
-		{[]int{2, 1, 0}, api.Term{1, 2}, api.Term{3, 2, 1, -1, 0, 2, 1, 1, 2}}, {[]int{0}, tower(53), slices.Concat(api.Term{3}, tower(53), f[2:])},
+		{[]int{2, 1, 0}, api.Term{1, 2}, api.Term{3, 2, 1, -1, 0, 2, 1, 1, 2}}, {[]int{0}, sample.Tower(53), slices.Concat(api.Term{3}, sample.Tower(53), f[2:])},
 	}
 	for _, test := range tests {
-		if got, e := term.Put(sign(), f, test.path, test.u); !slices.Equal(got, test.want) || e != api.OK {
+		if got, e := term.Put(sample.Sign(), f, test.path, test.u); !slices.Equal(got, test.want) || e != api.OK {
 			t.Errorf("Put(%v, %v) = %v, %d", test.path, test.u, got, e)
 		}
 	}
@@ -193,15 +194,15 @@ func TestPut(t *testing.T) {
 // 1.3: what is put in counts, and what it takes the place of does not.
 func TestPutLimit(t *testing.T) {
 	f := api.Term{3, 2, 1, -1, 0, 2, 1, -1}
-	for _, path := range paths(sign(), f) {
-		most := api.MaxSize - len(f) + len(partAt(sign(), f, path))
-		if u, e := term.Put(sign(), f, path, tower(most)); e != api.OK || len(u) != api.MaxSize {
+	for _, path := range paths(sample.Sign(), f) {
+		most := api.MaxSize - len(f) + len(partAt(sample.Sign(), f, path))
+		if u, e := term.Put(sample.Sign(), f, path, sample.Tower(most)); e != api.OK || len(u) != api.MaxSize {
 			t.Errorf("Put(%v) of %d numbers: %d numbers, %d", path, most, len(u), e)
 		}
 		if most == api.MaxSize {
 			continue
 		}
-		if u, e := term.Put(sign(), f, path, tower(most+1)); e != api.ErrLimit || len(u) != 0 {
+		if u, e := term.Put(sample.Sign(), f, path, sample.Tower(most+1)); e != api.ErrLimit || len(u) != 0 {
 			t.Errorf("Put(%v) of %d numbers: %v, %d", path, most+1, u, e)
 		}
 	}
@@ -210,7 +211,7 @@ func TestPutLimit(t *testing.T) {
 // P1.3: what is put in is there, and putting a part in its own place changes
 // nothing.
 func TestPutAndAt(t *testing.T) {
-	s := sign()
+	s := sample.Sign()
 	for i, u := range terms() {
 		for _, path := range paths(s, u) {
 			part, _ := term.At(s, u, path)
@@ -237,11 +238,11 @@ func TestPaths(t *testing.T) {
 		want [][]int
 	}{
 		{f, f, [][]int{{}}}, {f, api.Term{1, -1}, [][]int{{1}, {2, 1}}}, {f, api.Term{2}, [][]int{{0}, {2, 0}}}, {f, api.Term{-1}, [][]int{{1, 0}, {2, 1, 0}}},
-		{f, api.Term{-2}, nil}, {f, api.Term{1, -2}, nil}, {api.Term{-2}, api.Term{-1}, nil}, {api.Term{1, 2}, tower(60), nil},
+		{f, api.Term{-2}, nil}, {f, api.Term{1, -2}, nil}, {api.Term{-2}, api.Term{-1}, nil}, {api.Term{1, 2}, sample.Tower(60), nil},
 		{api.Term{0, 0, -1, -1, -1}, api.Term{-1}, [][]int{{0, 0}, {0, 1}, {1}}},
 	}
 	for _, test := range tests {
-		if got, e := term.Paths(sign(), test.t, test.u); !samePaths(got, test.want) || e != api.OK {
+		if got, e := term.Paths(sample.Sign(), test.t, test.u); !samePaths(got, test.want) || e != api.OK {
 			t.Errorf("Paths(%v, %v) = %v, %d", test.t, test.u, got, e)
 		}
 	}
@@ -249,7 +250,7 @@ func TestPaths(t *testing.T) {
 
 // P1.4: at each path there is the part, and at no other one.
 func TestPathsOfParts(t *testing.T) {
-	s := sign()
+	s := sample.Sign()
 	for _, u := range terms() {
 		all := paths(s, u)
 		for _, part := range append([]api.Term{{-1}, {2}, {1, 2}}, partAt(s, u, all[len(all)/2]), u) {
@@ -277,7 +278,7 @@ func TestParts(t *testing.T) {
 		{api.Term{0, -1, 0, -2, -1}, []api.Term{{-2}, {-1}, {0, -2, -1}, {0, -1, 0, -2, -1}}}, {api.Term{3, 2, 2, 2}, []api.Term{{2}, {3, 2, 2, 2}}},
 	}
 	for _, test := range tests {
-		if got, e := term.Parts(sign(), test.u); !sameTerms(got, test.want) || e != api.OK {
+		if got, e := term.Parts(sample.Sign(), test.u); !sameTerms(got, test.want) || e != api.OK {
 			t.Errorf("Parts(%v) = %v, %d", test.u, got, e)
 		}
 	}
@@ -285,7 +286,7 @@ func TestParts(t *testing.T) {
 
 // 1.3: Parts are the terms at all paths, each once, in order.
 func TestPartsOfAllPaths(t *testing.T) {
-	s := sign()
+	s := sample.Sign()
 	for _, u := range terms() {
 		parts, e := term.Parts(s, u)
 		if e != api.OK {

@@ -7,6 +7,7 @@ import (
 	"testing"
 
 	"lemmary/api"
+	"lemmary/sample"
 	"lemmary/term"
 )
 
@@ -58,17 +59,17 @@ func empty(r any) bool {
 func TestWrongArguments(t *testing.T) {
 	right := api.Term{-1}
 	for _, c := range calls() {
-		for _, s := range wrongSigns() {
+		for _, s := range sample.WrongSigns() {
 			if r, e := c.do(s, right, right, nil); e != api.ErrInvalid || !empty(r) {
 				t.Errorf("%s with the sign %v: %v, %d", c.name, s, r, e)
 			}
 		}
-		for _, wrong := range wrongTerms() {
+		for _, wrong := range sample.WrongTerms() {
 			for _, path := range append(wrongPaths(), nil) {
-				if r, e := c.do(sign(), wrong, right, path); e != api.ErrInvalid || !empty(r) {
+				if r, e := c.do(sample.Sign(), wrong, right, path); e != api.ErrInvalid || !empty(r) {
 					t.Errorf("%s of the term %v: %v, %d", c.name, wrong, r, e)
 				}
-				if r, e := c.do(sign(), right, wrong, path); usesSecond(c.name) && (e != api.ErrInvalid || !empty(r)) {
+				if r, e := c.do(sample.Sign(), right, wrong, path); usesSecond(c.name) && (e != api.ErrInvalid || !empty(r)) {
 					t.Errorf("%s with the term %v: %v, %d", c.name, wrong, r, e)
 				}
 			}
@@ -92,7 +93,7 @@ func untouched(list, want []int) bool {
 func TestArgumentsStay(t *testing.T) {
 	for _, c := range calls() {
 		for _, u := range terms() {
-			s := sign()
+			s := sample.Sign()
 			memory := append(slices.Clone(s), api.Symbol{Name: "spare"})
 			a, b, path := roomy(u), roomy(api.Term{0, -2, 1, -2}), roomy([]int{0})
 			c.do(memory[:len(s)], a, b, path)
@@ -129,9 +130,9 @@ func slicesOf(r any) [][]int {
 // no argument and no other list of the result, and no later result.
 func TestResultsAreNewMemory(t *testing.T) {
 	for _, c := range calls() {
-		for _, u := range append(randomTerms(sign(), 60), api.Term{3, 2, 1, -1, 0, 2, 1, -1}, tower(59)) {
+		for _, u := range append(sample.RandomTerms(sample.Sign(), 60), api.Term{3, 2, 1, -1, 0, 2, 1, -1}, sample.Tower(59)) {
 			a, b, path := slices.Clone(u), api.Term{0, -2, 1, -2}, []int{0}
-			r, e := c.do(sign(), a, b, path)
+			r, e := c.do(sample.Sign(), a, b, path)
 			before := fmt.Sprint(r)
 			lists := slicesOf(r)
 			for i, list := range lists {
@@ -147,7 +148,7 @@ func TestResultsAreNewMemory(t *testing.T) {
 				t.Errorf("%s of %v: the result shares memory with an argument", c.name, u)
 			}
 			// R7: the same call gives the same result.
-			again, f := c.do(sign(), a, b, path)
+			again, f := c.do(sample.Sign(), a, b, path)
 			if fmt.Sprint(again) != before || f != e {
 				t.Errorf("%s of %v: first %s, then %v", c.name, u, before, again)
 			}
@@ -157,19 +158,19 @@ func TestResultsAreNewMemory(t *testing.T) {
 
 // R4: a sign that is read shares no memory with one that was read before.
 func TestParsedSignsAreNewMemory(t *testing.T) {
-	text := term.Format(sign())
+	text := term.Format(sample.Sign())
 	first, _ := term.Parse(text)
 	for i := range first {
 		first[i] = api.Symbol{}
 	}
-	if again, e := term.Parse(text); e != api.OK || !slices.Equal(again, sign()) {
+	if again, e := term.Parse(text); e != api.OK || !slices.Equal(again, sample.Sign()) {
 		t.Errorf("Parse = %v, %d", again, e)
 	}
 }
 
 // R4: nil and empty lists are equivalent.
 func TestNilAndEmpty(t *testing.T) {
-	s, none := sign(), api.Term{}
+	s, none := sample.Sign(), api.Term{}
 	if term.ValidSign(api.Sign{}) || term.Valid(s, none) || term.Compare(none, nil) != 0 || term.Format(api.Sign{}) != "" {
 		t.Error("an empty sign or term")
 	}

@@ -6,17 +6,18 @@ import (
 	"testing"
 
 	"lemmary/api"
+	"lemmary/sample"
 	"lemmary/term"
 )
 
 // 1.1
 func TestValidSign(t *testing.T) {
-	for _, s := range rightSigns() {
+	for _, s := range sample.RightSigns() {
 		if !term.ValidSign(s) {
 			t.Errorf("%v is not valid", s)
 		}
 	}
-	for _, s := range wrongSigns() {
+	for _, s := range sample.WrongSigns() {
 		if term.ValidSign(s) {
 			t.Errorf("%v is valid", s)
 		}
@@ -36,13 +37,13 @@ func TestValidSignLetters(t *testing.T) {
 
 // 1.4
 func TestFormat(t *testing.T) {
-	if text := term.Format(sign()); text != "C/2 N/1 T/0 f/3" {
+	if text := term.Format(sample.Sign()); text != "C/2 N/1 T/0 f/3" {
 		t.Errorf("Format = %q", text)
 	}
 	if text := term.Format(api.Sign{{Name: "abcdefgh", Arity: 2}}); text != "abcdefgh/2" {
 		t.Errorf("Format = %q", text)
 	}
-	for _, s := range wrongSigns() {
+	for _, s := range sample.WrongSigns() {
 		if text := term.Format(s); text != "" {
 			t.Errorf("Format(%v) = %q", s, text)
 		}
@@ -51,7 +52,7 @@ func TestFormat(t *testing.T) {
 
 // 1.4, P1.6
 func TestParseOfFormat(t *testing.T) {
-	for _, s := range rightSigns() {
+	for _, s := range sample.RightSigns() {
 		got, e := term.Parse(term.Format(s))
 		if e != api.OK || !slices.Equal(got, s) {
 			t.Errorf("Parse(Format(%v)) = %v, %d", s, got, e)

@@ -7,23 +7,24 @@ import (
 	"testing"
 
 	"lemmary/api"
+	"lemmary/sample"
 	"lemmary/term"
 )
 
 // 1.1
 func TestValid(t *testing.T) {
-	s := sign()
-	for _, u := range []api.Term{{-1}, {-12}, {2}, {0, -1, 0, -2, -1}, {1, 1, 2}, {3, -1, 2, 1, -3}, tower(60)} {
+	s := sample.Sign()
+	for _, u := range []api.Term{{-1}, {-12}, {2}, {0, -1, 0, -2, -1}, {1, 1, 2}, {3, -1, 2, 1, -3}, sample.Tower(60)} {
 		if !term.Valid(s, u) {
 			t.Errorf("%v is not valid", u)
 		}
 	}
-	for _, u := range wrongTerms() {
+	for _, u := range sample.WrongTerms() {
 		if term.Valid(s, u) {
 			t.Errorf("%v is valid", u)
 		}
 	}
-	for _, wrong := range wrongSigns() {
+	for _, wrong := range sample.WrongSigns() {
 		if term.Valid(wrong, api.Term{-1}) {
 			t.Errorf("a term is valid for %v", wrong)
 		}
@@ -32,9 +33,9 @@ func TestValid(t *testing.T) {
 
 // 1.1: of all short lists those are valid that are just one term.
 func TestValidOfAllLists(t *testing.T) {
-	s := sign()
-	lists([]int{-13, -12, -1, 0, 1, 2, 3, 4}, 5, func(u api.Term) {
-		if got, want := term.Valid(s, u), isTerm(s, u); got != want {
+	s := sample.Sign()
+	sample.Lists([]int{-13, -12, -1, 0, 1, 2, 3, 4}, 5, func(u api.Term) {
+		if got, want := term.Valid(s, u), sample.IsTerm(s, u); got != want {
 			t.Errorf("Valid(%v) = %v", u, got)
 		}
 	})
@@ -55,10 +56,10 @@ func TestDepth(t *testing.T) {
 		depth int
 	}{
 		{api.Term{-3}, 1}, {api.Term{2}, 1}, {api.Term{1, 2}, 2}, {api.Term{0, -1, 0, -2, -1}, 3},
-		{api.Term{0, 1, 1, -1, -2}, 4}, {api.Term{3, 1, 1, 2, 2, 0, 2, -1}, 4}, {api.Term{3, 2, 1, 1, 1, 2, 2}, 5}, {tower(60), 60},
+		{api.Term{0, 1, 1, -1, -2}, 4}, {api.Term{3, 1, 1, 2, 2, 0, 2, -1}, 4}, {api.Term{3, 2, 1, 1, 1, 2, 2}, 5}, {sample.Tower(60), 60},
 	}
 	for _, test := range tests {
-		if depth, e := term.Depth(sign(), test.u); depth != test.depth || e != api.OK {
+		if depth, e := term.Depth(sample.Sign(), test.u); depth != test.depth || e != api.OK {
 			t.Errorf("Depth(%v) = %d, %d", test.u, depth, e)
 		}
 	}
@@ -66,7 +67,7 @@ func TestDepth(t *testing.T) {
 
 // 1.1: a term is one deeper than the deepest of its arguments.
 func TestDepthOfArguments(t *testing.T) {
-	s := sign()
+	s := sample.Sign()
 	for _, u := range terms() {
 		want := 0
 		for _, path := range paths(s, u) {
@@ -85,10 +86,10 @@ func TestVars(t *testing.T) {
 		vars []int
 	}{
 		{api.Term{2}, nil}, {api.Term{-12}, []int{11}}, {api.Term{0, -5, 0, -1, -5}, []int{4, 0}},
-		{api.Term{3, -2, 0, -3, -2, -1}, []int{1, 2, 0}}, {api.Term{0, 2, 1, 2}, nil}, {tower(60), nil},
+		{api.Term{3, -2, 0, -3, -2, -1}, []int{1, 2, 0}}, {api.Term{0, 2, 1, 2}, nil}, {sample.Tower(60), nil},
 	}
 	for _, test := range tests {
-		if vars, e := term.Vars(sign(), test.u); !slices.Equal(vars, test.vars) || e != api.OK {
+		if vars, e := term.Vars(sample.Sign(), test.u); !slices.Equal(vars, test.vars) || e != api.OK {
 			t.Errorf("Vars(%v) = %v, %d", test.u, vars, e)
 		}
 	}
@@ -101,10 +102,10 @@ func TestCounts(t *testing.T) {
 		counts []int
 	}{
 		{api.Term{-1}, []int{0, 0, 0, 0}}, {api.Term{2}, []int{0, 0, 1, 0}}, {api.Term{0, -1, 0, -2, -1}, []int{2, 0, 0, 0}},
-		{api.Term{3, 2, 1, -1, 0, 2, 1, -1}, []int{1, 2, 2, 1}}, {tower(60), []int{0, 59, 1, 0}},
+		{api.Term{3, 2, 1, -1, 0, 2, 1, -1}, []int{1, 2, 2, 1}}, {sample.Tower(60), []int{0, 59, 1, 0}},
 	}
 	for _, test := range tests {
-		if counts, e := term.Counts(sign(), test.u); !slices.Equal(counts, test.counts) || e != api.OK {
+		if counts, e := term.Counts(sample.Sign(), test.u); !slices.Equal(counts, test.counts) || e != api.OK {
 			t.Errorf("Counts(%v) = %v, %d", test.u, counts, e)
 		}
 	}
@@ -112,7 +113,7 @@ func TestCounts(t *testing.T) {
 
 // P1.5: symbols and places of variables add up to the size.
 func TestCountsAddUp(t *testing.T) {
-	s := sign()
+	s := sample.Sign()
 	for _, u := range terms() {
 		counts, e := term.Counts(s, u)
 		vars, f := term.Vars(s, u)
@@ -137,7 +138,7 @@ func TestCountsAddUp(t *testing.T) {
 func TestCompare(t *testing.T) {
 	ascending := []api.Term{
 		{}, {math.MinInt}, {-13}, {-1}, {0}, {5}, {math.MaxInt},
-		{math.MinInt, math.MaxInt}, {-2, 7}, {-1, -1}, {-1, 2}, {0, 0}, {math.MaxInt, math.MinInt}, {-1, -1, -1}, tower(60), tower(61),
+		{math.MinInt, math.MaxInt}, {-2, 7}, {-1, -1}, {-1, 2}, {0, 0}, {math.MaxInt, math.MinInt}, {-1, -1, -1}, sample.Tower(60), sample.Tower(61),
 	}
 	for i, a := range ascending {
 		for j, b := range ascending {
@@ -160,7 +161,7 @@ func TestCompare(t *testing.T) {
 // P1.5: Compare is an order.
 func TestCompareIsAnOrder(t *testing.T) {
 	r := rand.New(rand.NewPCG(3, 4))
-	all := append(terms(), wrongTerms()...)
+	all := append(terms(), sample.WrongTerms()...)
 	for range 20000 {
 		a, b, c := all[r.IntN(len(all))], all[r.IntN(len(all))], all[r.IntN(len(all))]
 		if term.Compare(a, b) != -term.Compare(b, a) || (term.Compare(a, b) == 0) != slices.Equal(a, b) {
