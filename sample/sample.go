@@ -121,7 +121,8 @@ func RandomTerms(s api.Sign, count int) []api.Term {
 	var d Dice
 	terms := make([]api.Term, count)
 	for i := range terms {
-		terms[i] = d.Term(s, 1+d.Roll(api.MaxSize), api.MaxVars)
+		most := 1 + d.Roll(api.MaxSize)
+		terms[i] = d.Term(s, most, api.MaxVars)
 	}
 	return terms
 }
