@@ -1,5 +1,5 @@
-// Package sample makes signs, terms and numbers for the tests of all layers. No
-// layer uses it.
+// Package sample makes signs, terms, dictionaries and numbers for the tests of
+// all layers. No layer uses it.
 package sample
 
 import (
@@ -49,7 +49,8 @@ func WrongSigns() []api.Sign {
 	return append(wrong,
 		api.Sign{{Name: "", Arity: 2}},
 		api.Sign{{Name: "C2", Arity: 2}},
-		api.Sign{c, {Name: "N"}, {Name: "a"}, {Name: "N", Arity: 1}})
+		api.Sign{c, {Name: "N"}, {Name: "a"}, {Name: "N", Arity: 1}},
+		api.Sign{c, {Name: "N", Arity: 1}, {Name: "T"}, {Name: "N", Arity: 3}})
 }
 
 // WrongTerms holds terms that are not valid for the sign of Sign.
