@@ -1,5 +1,6 @@
-// Package sample makes signs, terms, dictionaries and numbers for the tests of
-// all layers. No layer uses it.
+// Package sample is for the tests of all layers: it makes signs, terms,
+// dictionaries, proofs and numbers, has a second way to unify, and checks what
+// holds for all functions. No layer uses it.
 package sample
 
 import (
@@ -70,9 +71,20 @@ func Tower(size int) api.Term {
 // IsTerm tells by counting whether a list is a term: another way than that of
 // package term.
 func IsTerm(s api.Sign, t api.Term) bool {
+	for _, x := range t {
+		if x < -api.MaxVars || x >= len(s) {
+			return false
+		}
+	}
+	return isWhole(s, t) && len(t) <= api.MaxSize
+}
+
+// isWhole tells whether numbers are just one term, however great it and the
+// numbers of its variables are.
+func isWhole(s api.Sign, t api.Term) bool {
 	missing := 1
 	for _, x := range t {
-		if missing == 0 || x < -api.MaxVars || x >= len(s) {
+		if missing == 0 {
 			return false
 		}
 		missing--
@@ -80,7 +92,7 @@ func IsTerm(s api.Sign, t api.Term) bool {
 			missing += s[x].Arity
 		}
 	}
-	return missing == 0 && len(t) <= api.MaxSize
+	return missing == 0
 }
 
 // Lists calls visit with all lists of numbers from a choice, of up to most

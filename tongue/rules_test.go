@@ -2,7 +2,6 @@ package tongue_test
 
 import (
 	"fmt"
-	"reflect"
 	"slices"
 	"testing"
 
@@ -26,45 +25,41 @@ func right() input {
 	return input{a: s, b: s, c: s, d: sample.RightWays(), e: sample.RightWays(), t: api.Term{0, -1, 1, -2}, u: api.Term{0, -1, 1, -2}, text: "(x0 -> N(x1))"}
 }
 
-// call is a function of the package. Its uses are the fields of the input that
-// it takes.
-type call struct {
-	name, uses string
-	do         func(x input) (any, api.Errno)
-}
-
-// calls has all functions that may return ErrInvalid.
-func calls() []call {
-	return []call{
-		{"Write", "at", func(x input) (any, api.Errno) { return result(tongue.Write(x.a, 2, x.t)) }},
-		{"Read", "a", func(x input) (any, api.Errno) { return result(tongue.Read(x.a, 2, x.text)) }},
-		{"Translate", "a", func(x input) (any, api.Errno) { return result(tongue.Translate(x.a, 2, 3, x.text)) }},
-		{"Carried", "abdt", func(x input) (any, api.Errno) { return result(tongue.Carried(x.a, x.b, x.d, x.t)) }},
-		{"Itself", "a", func(x input) (any, api.Errno) { return result(tongue.Itself(x.a)) }},
-		{"Inverse", "abd", func(x input) (any, api.Errno) { return result(tongue.Inverse(x.a, x.b, x.d)) }},
-		{"Composed", "abcde", func(x input) (any, api.Errno) { return result(tongue.Composed(x.a, x.b, x.c, x.d, x.e)) }},
-		{"Image", "abd", func(x input) (any, api.Errno) { return result(tongue.Image(x.a, x.b, x.d)) }},
-		{"Lacks", "abdu", func(x input) (any, api.Errno) { return result(tongue.Lacks(x.a, x.b, x.d, x.u)) }},
-		{"Fetched", "abdu", func(x input) (any, api.Errno) { return result(tongue.Fetched(x.a, x.b, x.d, x.u)) }},
-		{"First", "ab", func(x input) (any, api.Errno) { return result(tongue.First(x.a, x.b)) }},
-		{"Symmetric", "adt", func(x input) (any, api.Errno) { return result(tongue.Symmetric(x.a, x.d, x.t)) }},
-		{"Order", "ad", func(x input) (any, api.Errno) { return result(tongue.Order(x.a, x.d)) }},
+// calls has all functions that may return ErrInvalid. Their uses are the names
+// of fields of input.
+func calls() []sample.Call[input] {
+	return []sample.Call[input]{
+		sample.Of("Write", "at", func(x input) (any, api.Errno) { return tongue.Write(x.a, 2, x.t) }),
+		sample.Of("Read", "a", func(x input) (any, api.Errno) { return tongue.Read(x.a, 2, x.text) }),
+		sample.Of("Translate", "a", func(x input) (any, api.Errno) { return tongue.Translate(x.a, 2, 3, x.text) }),
+		sample.Of("Carried", "abdt", func(x input) (any, api.Errno) { return tongue.Carried(x.a, x.b, x.d, x.t) }),
+		sample.Of("Itself", "a", func(x input) (any, api.Errno) { return tongue.Itself(x.a) }),
+		sample.Of("Inverse", "abd", func(x input) (any, api.Errno) { return tongue.Inverse(x.a, x.b, x.d) }),
+		sample.Of("Composed", "abcde", func(x input) (any, api.Errno) { return tongue.Composed(x.a, x.b, x.c, x.d, x.e) }),
+		sample.Of("Image", "abd", func(x input) (any, api.Errno) { return tongue.Image(x.a, x.b, x.d) }),
+		sample.Of("Lacks", "abdu", func(x input) (any, api.Errno) { return tongue.Lacks(x.a, x.b, x.d, x.u) }),
+		sample.Of("Fetched", "abdu", func(x input) (any, api.Errno) { return tongue.Fetched(x.a, x.b, x.d, x.u) }),
+		sample.Of("First", "ab", func(x input) (any, api.Errno) { return tongue.First(x.a, x.b) }),
+		sample.Of("Symmetric", "adt", func(x input) (any, api.Errno) { return tongue.Symmetric(x.a, x.d, x.t) }),
+		sample.Of("Order", "ad", func(x input) (any, api.Errno) { return tongue.Order(x.a, x.d) }),
 	}
 }
 
-// others has all other functions.
-func others() []call {
-	return []call{
-		{"Valid", "abd", func(x input) (any, api.Errno) { return tongue.Valid(x.a, x.b, x.d), 0 }},
-		{"OneToOne", "abd", func(x input) (any, api.Errno) { return tongue.OneToOne(x.a, x.b, x.d), 0 }},
-		{"Same", "de", func(x input) (any, api.Errno) { return tongue.Same(x.d, x.e), 0 }},
-		{"Format", "d", func(x input) (any, api.Errno) { return tongue.Format(x.d), 0 }},
-		{"Parse", "", func(x input) (any, api.Errno) { return result(tongue.Parse(tongue.Format(x.d))) }},
+// reports has all functions that only report whether something is valid.
+func reports() []sample.Call[input] {
+	return []sample.Call[input]{
+		sample.Plain("Valid", "abd", func(x input) any { return tongue.Valid(x.a, x.b, x.d) }),
+		sample.Plain("OneToOne", "abd", func(x input) any { return tongue.OneToOne(x.a, x.b, x.d) }),
 	}
 }
 
-func result[T any](r T, e api.Errno) (any, api.Errno) {
-	return r, e
+// others has the functions that take any ways, and texts of them.
+func others() []sample.Call[input] {
+	return []sample.Call[input]{
+		sample.Plain("Same", "de", func(x input) any { return tongue.Same(x.d, x.e) }),
+		sample.Plain("Format", "d", func(x input) any { return tongue.Format(x.d) }),
+		sample.Of("Parse", "", func(x input) (any, api.Errno) { return tongue.Parse(tongue.Format(x.d)) }),
+	}
 }
 
 // wrongInputs returns inputs of which one field that a call uses is wrong.
@@ -106,39 +101,10 @@ func wrongInputs(uses string) []input {
 	return wrong
 }
 
-// empty tells whether a result is its zero value; a list may also be empty.
-func empty(r any) bool {
-	v := reflect.ValueOf(r)
-	return v.IsZero() || v.Kind() == reflect.Slice && v.Len() == 0
-}
-
-// R1, R3, P3.1, and ErrInvalid of 3.1 to 3.3.
+// R1, R3, P3.1: ErrInvalid of 3.1 to 3.3, and reports, which are false then.
 func TestWrongArguments(t *testing.T) {
-	for _, c := range calls() {
-		if r, e := c.do(right()); e != api.OK {
-			t.Errorf("%s of right arguments: %v, %d", c.name, r, e)
-		}
-		for _, x := range wrongInputs(c.uses) {
-			if r, e := c.do(x); e != api.ErrInvalid || !empty(r) {
-				t.Errorf("%s of %v: %v, %d", c.name, x, r, e)
-			}
-		}
-	}
-}
-
-// 3.2: reports of wrong arguments are false; Same and Format take any ways.
-func TestReportsOfWrongArguments(t *testing.T) {
-	for _, c := range others() {
-		if r, e := c.do(right()); empty(r) || e != api.OK {
-			t.Errorf("%s of right arguments: %v, %d", c.name, r, e)
-		}
-		for _, x := range wrongInputs(c.uses) {
-			r, e := c.do(x)
-			if report := c.name == "Valid" || c.name == "OneToOne"; report && !empty(r) || e != api.OK {
-				t.Errorf("%s of %v: %v, %d", c.name, x, r, e)
-			}
-		}
-	}
+	sample.Refused(t, calls(), right(), wrongInputs, api.ErrInvalid)
+	sample.Refused(t, reports(), right(), wrongInputs, api.OK)
 }
 
 // 3.1 to 3.3: errors that come behind ErrInvalid: a wrong term, and a
@@ -187,27 +153,20 @@ func inputs() []input {
 // roomy copies input into memory with spare capacity that holds what no input
 // of a test has.
 func roomy(x input) input {
-	x.a, x.b, x.c = roomySign(x.a), roomySign(x.b), roomySign(x.c)
+	for _, s := range []*api.Sign{&x.a, &x.b, &x.c} {
+		*s = sample.Roomy(*s, api.Symbol{Name: "spare"})
+	}
 	x.d, x.e = roomyWays(x.d), roomyWays(x.e)
-	x.t, x.u = roomyList(x.t), roomyList(x.u)
+	x.t, x.u = sample.Roomy(x.t, 77), sample.Roomy(x.u, 77)
 	return x
 }
 
-func roomySign(s api.Sign) api.Sign {
-	return append(slices.Clone(s), api.Symbol{Name: "spare"})[:len(s)]
-}
-
-func roomyList(list []int) []int {
-	return append(slices.Clone(list), 77, 77, 77)[:len(list)]
-}
-
 func roomyWays(d []api.Way) []api.Way {
-	roomy := make([]api.Way, len(d)+1)
+	roomy := sample.Roomy(d, api.Way{To: 99})
 	for i, way := range d {
-		roomy[i] = api.Way{To: way.To, Args: roomyList(way.Args)}
+		roomy[i].Args = sample.Roomy(way.Args, 77)
 	}
-	roomy[len(d)] = api.Way{To: 99}
-	return roomy[:len(d)]
+	return roomy
 }
 
 // all tells everything that input holds, up to the capacities of its lists.
@@ -224,59 +183,10 @@ func all(x input) string {
 	return told + fmt.Sprint(x.t[:cap(x.t)], x.u[:cap(x.u)])
 }
 
-// overwritten overwrites all lists of a result, up to their capacities, and
-// fails if that changes another one.
-func overwritten(t *testing.T, name string, r any) {
-	lists := [][]int{}
-	switch x := r.(type) {
-	case api.Term:
-		lists = append(lists, x)
-	case []int:
-		lists = append(lists, x)
-	case []api.Way:
-		for _, way := range x {
-			lists = append(lists, way.Args)
-		}
-	}
-	for i, list := range lists {
-		kept := fmt.Sprint(lists[i+1:])
-		for k := range list[:cap(list)] {
-			list[:cap(list)][k] = 55
-		}
-		if fmt.Sprint(lists[i+1:]) != kept {
-			t.Errorf("%s: two lists share memory", name)
-		}
-	}
-}
-
-// R4, R7, P3.1: arguments stay as they are, also in their spare capacity;
-// whoever overwrites a result changes no argument and no later result.
+// R4, R7, P3.1
 func TestMemory(t *testing.T) {
-	for _, c := range append(calls(), others()...) {
-		some := 0
-		for _, plain := range inputs() {
-			x := roomy(plain)
-			before := all(x)
-			r, e := c.do(x)
-			told := fmt.Sprint(r, e)
-			if all(x) != before {
-				t.Errorf("%s changes its arguments %v", c.name, plain)
-			}
-			overwritten(t, c.name, r)
-			if all(x) != before {
-				t.Errorf("%s of %v: the result shares memory with an argument", c.name, plain)
-			}
-			if again, f := c.do(x); fmt.Sprint(again, f) != told {
-				t.Errorf("%s of %v: first %s, then %v", c.name, plain, told, again)
-			}
-			if !empty(r) {
-				some++
-			}
-		}
-		if some < 10 {
-			t.Errorf("%s has only %d results", c.name, some)
-		}
-	}
+	memory := sample.Memory[input]{Roomy: roomy, All: all, Text: fmt.Sprint}
+	memory.Unshared(t, slices.Concat(calls(), reports(), others()), inputs())
 }
 
 // R4: nil and empty lists are equivalent.

@@ -50,7 +50,7 @@ func TestErrorsOnTheWay(t *testing.T) {
 			t.Errorf("MeetAll(%v) = %v, %d", test.l, meet, e)
 		}
 	}
-	row, other := chain(append(vars(0, 11), api.Term{-1})...), chain(append(vars(0, 11), api.Term{-2})...)
+	row, other := sample.Chain(append(sample.Vars(0, 11), api.Term{-1})...), sample.Chain(append(sample.Vars(0, 11), api.Term{-2})...)
 	if join, e := unify.JoinAll(s, []api.Term{row, other, {-1}}); e != api.ErrLimit || len(join) > 0 {
 		t.Errorf("JoinAll = %v, %d", join, e)
 	}

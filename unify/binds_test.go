@@ -90,7 +90,7 @@ func TestApplyOfRandomBinds(t *testing.T) {
 	var d sample.Dice
 	for range 3000 {
 		l, u := binds(&d, 12), d.Term(sample.Sign(), 30, api.MaxVars)
-		want := put(l, u)
+		want := sample.Put(l, u)
 		w, e := unify.Apply(sample.Sign(), l, u)
 		if len(want) > api.MaxSize && e != api.ErrLimit || len(want) <= api.MaxSize && (e != api.OK || !slices.Equal(w, want)) {
 			t.Errorf("Apply(%v, %v) = %v, %d", l, u, w, e)
@@ -144,7 +144,7 @@ func TestComposed(t *testing.T) {
 			t.Fatalf("Compose(%v, %v): %d", l, m, e)
 		}
 		w, e := unify.Apply(s, both, u)
-		want := put(m, put(l, u))
+		want := sample.Put(m, sample.Put(l, u))
 		if !unify.ValidBinds(s, both) || len(want) <= api.MaxSize && !slices.Equal(w, want) || len(want) > api.MaxSize && e != api.ErrLimit {
 			t.Errorf("Compose(%v, %v) = %v, and of %v: %v, %d", l, m, both, u, w, e)
 		}

@@ -32,8 +32,8 @@ func pairs(visit func(s api.Sign, a, b api.Term)) {
 		a := d.Term(sample.Sign(), 1+d.Roll(20), 1+d.Roll(api.MaxVars))
 		b := d.Term(sample.Sign(), 1+d.Roll(20), 1+d.Roll(api.MaxVars))
 		visit(sample.Sign(), a, b)
-		visit(sample.Sign(), a, put(binds(&d, 4), a))
-		visit(sample.Sign(), put(binds(&d, 3), a), put(binds(&d, 3), a))
+		visit(sample.Sign(), a, sample.Put(binds(&d, 4), a))
+		visit(sample.Sign(), sample.Put(binds(&d, 3), a), sample.Put(binds(&d, 3), a))
 		visit(sample.Sign(), row(&d), row(&d))
 		a, b = ladder(&d)
 		visit(sample.Sign(), a, b)
@@ -50,7 +50,7 @@ func ladder(d *sample.Dice) (a, b api.Term) {
 		x := func() int { return -1 - v + d.Roll(1+v)*d.Roll(2) }
 		l = append(l, []api.Term{{x()}, {0, x(), x()}, {3, x(), 2, x()}}[d.Roll(3)])
 	}
-	return chain(vars(1, n)...), chain(l...)
+	return sample.Chain(sample.Vars(1, n)...), sample.Chain(l...)
 }
 
 // row is a chain of variables and of terms with three variables: two of them
@@ -65,7 +65,7 @@ func row(d *sample.Dice) api.Term {
 			l = append(l, api.Term{3, x(), x(), x()})
 		}
 	}
-	return chain(l...)
+	return sample.Chain(l...)
 }
 
 // binds returns random binds of terms of up to so many numbers.
@@ -99,59 +99,15 @@ func smallBinds(most int) [][]api.Bind {
 	return all
 }
 
-// put returns what binds make of a term, told number by number.
-func put(l []api.Bind, t api.Term) api.Term {
-	u := api.Term{}
-	for _, x := range t {
-		i := slices.IndexFunc(l, func(bind api.Bind) bool { return -bind.Var-1 == x })
-		if i < 0 {
-			u = append(u, x)
-		} else {
-			u = append(u, l[i].To...)
-		}
-	}
-	return u
-}
-
-// chain is C t C t ... of some terms: C of the first one and the chain of the
-// others; the last one stands alone.
-func chain(terms ...api.Term) api.Term {
-	t := api.Term{}
-	for _, next := range terms[:len(terms)-1] {
-		t = append(append(t, 0), next...)
-	}
-	return append(t, terms[len(terms)-1]...)
-}
-
-// vars is the variables from one to another one.
-func vars(from, to int) []api.Term {
-	l := []api.Term{}
-	for v := from; v <= to; v++ {
-		l = append(l, api.Term{-v - 1})
-	}
-	return l
-}
-
 // doubled is two terms of which the first one says that the variables 1 to n
 // are doubles of those before: they unify, but a variable becomes a term with
 // 2^n places.
 func doubled(n int) (a, b api.Term) {
 	doubles := []api.Term{}
-	for _, x := range vars(0, n-1) {
+	for _, x := range sample.Vars(0, n-1) {
 		doubles = append(doubles, slices.Concat(api.Term{0}, x, x))
 	}
-	return chain(vars(1, n)...), chain(doubles...)
-}
-
-// apart returns a term with each variable v called v + by.
-func apart(t api.Term, by int) api.Term {
-	u := slices.Clone(t)
-	for i, x := range t {
-		if x < 0 {
-			u[i] = x - by
-		}
-	}
-	return u
+	return sample.Chain(sample.Vars(1, n)...), sample.Chain(doubles...)
 }
 
 func sameBinds(l, m []api.Bind) bool {
@@ -184,7 +140,7 @@ func matches(s api.Sign, a, b api.Term) [][]api.Bind {
 	free, _ := term.Vars(s, a)
 	parts, _ := term.Parts(s, b)
 	assigned(free, parts, func(l []api.Bind) {
-		if slices.Equal(put(l, a), b) {
+		if slices.Equal(sample.Put(l, a), b) {
 			all = append(all, l)
 		}
 	})

@@ -58,7 +58,7 @@ func TestMeetOfRandomTerms(t *testing.T) {
 		if len(a) > api.MaxSize || len(b) > api.MaxSize {
 			return
 		}
-		l, meets := unifier(s, [][2]api.Term{{a, apart(b, 20)}})
+		l, meets := sample.Unifier(s, a, sample.Apart(b, 20))
 		meet, e := unify.Meet(s, a, b)
 		back, f := unify.Meet(s, b, a)
 		done[e]++
@@ -66,7 +66,7 @@ func TestMeetOfRandomTerms(t *testing.T) {
 			t.Errorf("Meet(%v, %v) = %v, %d; %v, %d", a, b, meet, e, back, f)
 		}
 		want := api.Errno(api.OK)
-		made := put(l, a)
+		made := sample.Put(l, a)
 		free := map[int]bool{}
 		for _, x := range made {
 			if x < 0 {
@@ -94,8 +94,8 @@ func TestMeetOfRandomTerms(t *testing.T) {
 // 2.4: terms with 24 variables meet in one that has 12, or has too many.
 func TestMeetLimit(t *testing.T) {
 	s := short()
-	twelve := chain(vars(0, 11)...)
-	if meet, e := unify.Meet(s, twelve, chain(vars(0, 11)...)); e != api.OK || !slices.Equal(meet, twelve) {
+	twelve := sample.Chain(sample.Vars(0, 11)...)
+	if meet, e := unify.Meet(s, twelve, sample.Chain(sample.Vars(0, 11)...)); e != api.OK || !slices.Equal(meet, twelve) {
 		t.Errorf("Meet = %v, %d", meet, e)
 	}
 	if meet, e := unify.Meet(s, slices.Concat(api.Term{0, -1}, api.Term{1, -1}), slices.Concat(api.Term{0}, twelve, api.Term{-1})); e != api.ErrNone || len(meet) > 0 {
@@ -130,7 +130,7 @@ func TestMeetsOfGreatTerms(t *testing.T) {
 		right = append(right, slices.Concat(api.Term{0}, x, x), x)
 	}
 	left, right = left[:20], right[:20]
-	a, b := chain(left...), chain(right...)
+	a, b := sample.Chain(left...), sample.Chain(right...)
 	if len(a) > api.MaxSize || len(b) > api.MaxSize {
 		t.Fatalf("%d and %d numbers", len(a), len(b))
 	}
@@ -184,12 +184,12 @@ func TestJoinIsABound(t *testing.T) {
 // 2.4: 12 variables are none too many for a join, 13 are.
 func TestJoinLimit(t *testing.T) {
 	s := short()
-	a := chain(append(vars(0, 11), api.Term{-1})...)
-	if join, e := unify.Join(s, a, chain(append(vars(0, 11), api.Term{-1})...)); e != api.OK || !slices.Equal(join, a) {
+	a := sample.Chain(append(sample.Vars(0, 11), api.Term{-1})...)
+	if join, e := unify.Join(s, a, sample.Chain(append(sample.Vars(0, 11), api.Term{-1})...)); e != api.OK || !slices.Equal(join, a) {
 		t.Errorf("Join = %v, %d", join, e)
 	}
 	for _, last := range []api.Term{{-2}, {2}, {1, -1}} {
-		if join, e := unify.Join(s, a, chain(append(vars(0, 11), last)...)); e != api.ErrLimit || len(join) > 0 {
+		if join, e := unify.Join(s, a, sample.Chain(append(sample.Vars(0, 11), last)...)); e != api.ErrLimit || len(join) > 0 {
 			t.Errorf("Join with %v = %v, %d", last, join, e)
 		}
 	}
@@ -242,7 +242,7 @@ func above(d *sample.Dice, c api.Term) api.Term {
 	parts, _ := term.Parts(s, c)
 	part := parts[d.Roll(len(parts))]
 	places, _ := term.Paths(s, c, part)
-	unused := slices.IndexFunc(vars(0, 11), func(x api.Term) bool { return !slices.Contains(c, x[0]) })
+	unused := slices.IndexFunc(sample.Vars(0, 11), func(x api.Term) bool { return !slices.Contains(c, x[0]) })
 	if unused < 0 {
 		return c
 	}

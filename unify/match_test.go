@@ -57,7 +57,7 @@ func TestInstance(t *testing.T) {
 	for _, a := range small(4) {
 		made := map[string]bool{}
 		for _, l := range smallBinds(3) {
-			form, _ := term.Canonical(short(), put(l, a))
+			form, _ := term.Canonical(short(), sample.Put(l, a))
 			made[text(form)] = true
 		}
 		for _, b := range small(4) {
@@ -83,11 +83,11 @@ func TestInstanceOfBinds(t *testing.T) {
 	var d sample.Dice
 	for range 3000 {
 		a, l := d.Term(sample.Sign(), 10, api.MaxVars), binds(&d, 5)
-		b := put(l, a)
-		if got, e := unify.Match(sample.Sign(), a, b); e != api.OK || !slices.Equal(put(got, a), b) {
+		b := sample.Put(l, a)
+		if got, e := unify.Match(sample.Sign(), a, b); e != api.OK || !slices.Equal(sample.Put(got, a), b) {
 			t.Errorf("Match(%v, %v) = %v, %d", a, b, got, e)
 		}
-		c := put(cycle(1+d.Roll(12)), b)
+		c := sample.Put(cycle(1+d.Roll(12)), b)
 		if !unify.Instance(sample.Sign(), a, c) || !unify.Instance(sample.Sign(), b, c) || !unify.Instance(sample.Sign(), c, b) {
 			t.Errorf("Instance of %v: %v and %v", a, b, c)
 		}

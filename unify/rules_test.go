@@ -2,7 +2,6 @@ package unify_test
 
 import (
 	"fmt"
-	"reflect"
 	"slices"
 	"testing"
 
@@ -25,43 +24,33 @@ func right() input {
 	return input{s: sample.Sign(), l: []api.Bind{}, m: []api.Bind{}, a: api.Term{0, -1, 1, -2}, b: api.Term{0, -1, 1, -2}, list: []api.Term{{-1}, {1, -2}}, v: 0}
 }
 
-// call is a function of the package. Its uses are the fields of the input that
-// it takes, beside the sign.
-type call struct {
-	name, uses string
-	do         func(x input) (any, api.Errno)
-}
-
-func calls() []call {
-	return []call{
-		{"Apply", "la", func(x input) (any, api.Errno) { return result(unify.Apply(x.s, x.l, x.a)) }},
-		{"Compose", "lm", func(x input) (any, api.Errno) { return result(unify.Compose(x.s, x.l, x.m)) }},
-		{"Match", "ab", func(x input) (any, api.Errno) { return result(unify.Match(x.s, x.a, x.b)) }},
-		{"Unify", "ab", func(x input) (any, api.Errno) { return result(unify.Unify(x.s, x.a, x.b)) }},
-		{"Unified", "ab", func(x input) (any, api.Errno) { return result(unify.Unified(x.s, x.a, x.b)) }},
-		{"Meet", "ab", func(x input) (any, api.Errno) { return result(unify.Meet(x.s, x.a, x.b)) }},
-		{"Join", "ab", func(x input) (any, api.Errno) { return result(unify.Join(x.s, x.a, x.b)) }},
-		{"MeetAll", "i", func(x input) (any, api.Errno) { return result(unify.MeetAll(x.s, x.list)) }},
-		{"JoinAll", "i", func(x input) (any, api.Errno) { return result(unify.JoinAll(x.s, x.list)) }},
-		{"Occurs", "a", func(x input) (any, api.Errno) { return result(unify.Occurs(x.s, x.v, x.a)) }},
+// calls has all functions that return an error. Their uses are the names of
+// fields of input, but that of the sign, and i for the list.
+func calls() []sample.Call[input] {
+	return []sample.Call[input]{
+		sample.Of("Apply", "la", func(x input) (any, api.Errno) { return unify.Apply(x.s, x.l, x.a) }),
+		sample.Of("Compose", "lm", func(x input) (any, api.Errno) { return unify.Compose(x.s, x.l, x.m) }),
+		sample.Of("Match", "ab", func(x input) (any, api.Errno) { return unify.Match(x.s, x.a, x.b) }),
+		sample.Of("Unify", "ab", func(x input) (any, api.Errno) { return unify.Unify(x.s, x.a, x.b) }),
+		sample.Of("Unified", "ab", func(x input) (any, api.Errno) { return unify.Unified(x.s, x.a, x.b) }),
+		sample.Of("Meet", "ab", func(x input) (any, api.Errno) { return unify.Meet(x.s, x.a, x.b) }),
+		sample.Of("Join", "ab", func(x input) (any, api.Errno) { return unify.Join(x.s, x.a, x.b) }),
+		sample.Of("MeetAll", "i", func(x input) (any, api.Errno) { return unify.MeetAll(x.s, x.list) }),
+		sample.Of("JoinAll", "i", func(x input) (any, api.Errno) { return unify.JoinAll(x.s, x.list) }),
+		sample.Of("Occurs", "a", func(x input) (any, api.Errno) { return unify.Occurs(x.s, x.v, x.a) }),
 	}
 }
 
-func result[T any](r T, e api.Errno) (any, api.Errno) {
-	return r, e
-}
-
 // reports has all functions that only report something.
-func reports() []call {
-	report := func(r bool) (any, api.Errno) { return r, 0 }
-	return []call{
-		{"ValidBinds", "l", func(x input) (any, api.Errno) { return report(unify.ValidBinds(x.s, x.l)) }},
-		{"Instance", "ab", func(x input) (any, api.Errno) { return report(unify.Instance(x.s, x.a, x.b)) }},
-		{"Unifies", "lab", func(x input) (any, api.Errno) { return report(unify.Unifies(x.s, x.l, x.a, x.b)) }},
-		{"Unifiable", "ab", func(x input) (any, api.Errno) { return report(unify.Unifiable(x.s, x.a, x.b)) }},
-		{"Meets", "ab", func(x input) (any, api.Errno) { return report(unify.Meets(x.s, x.a, x.b)) }},
-		{"Solved", "l", func(x input) (any, api.Errno) { return report(unify.Solved(x.s, x.l)) }},
-		{"Renaming", "l", func(x input) (any, api.Errno) { return report(unify.Renaming(x.s, x.l)) }},
+func reports() []sample.Call[input] {
+	return []sample.Call[input]{
+		sample.Plain("ValidBinds", "l", func(x input) any { return unify.ValidBinds(x.s, x.l) }),
+		sample.Plain("Instance", "ab", func(x input) any { return unify.Instance(x.s, x.a, x.b) }),
+		sample.Plain("Unifies", "lab", func(x input) any { return unify.Unifies(x.s, x.l, x.a, x.b) }),
+		sample.Plain("Unifiable", "ab", func(x input) any { return unify.Unifiable(x.s, x.a, x.b) }),
+		sample.Plain("Meets", "ab", func(x input) any { return unify.Meets(x.s, x.a, x.b) }),
+		sample.Plain("Solved", "l", func(x input) any { return unify.Solved(x.s, x.l) }),
+		sample.Plain("Renaming", "l", func(x input) any { return unify.Renaming(x.s, x.l) }),
 	}
 }
 
@@ -103,38 +92,10 @@ func wrongInputs(uses string) []input {
 	return wrong
 }
 
-// empty tells whether a result is its zero value; a list may also be empty.
-func empty(r any) bool {
-	v := reflect.ValueOf(r)
-	return v.IsZero() || v.Kind() == reflect.Slice && v.Len() == 0
-}
-
-// R1, R3, P2.1, and ErrInvalid of 2.1 to 2.4.
+// R1, R3, P2.1: ErrInvalid of 2.1 to 2.4, and reports, which are false then.
 func TestWrongArguments(t *testing.T) {
-	for _, c := range calls() {
-		if r, e := c.do(right()); e != api.OK {
-			t.Errorf("%s of right arguments: %v, %d", c.name, r, e)
-		}
-		for _, x := range wrongInputs(c.uses) {
-			if r, e := c.do(x); e != api.ErrInvalid || !empty(r) {
-				t.Errorf("%s of %v: %v, %d", c.name, x, r, e)
-			}
-		}
-	}
-}
-
-// 2.1 to 2.4: false for wrong arguments.
-func TestReportsOfWrongArguments(t *testing.T) {
-	for _, c := range reports() {
-		if r, _ := c.do(right()); r != true {
-			t.Errorf("%s of right arguments: %v", c.name, r)
-		}
-		for _, x := range wrongInputs(c.uses) {
-			if r, _ := c.do(x); r != false {
-				t.Errorf("%s of %v: %v", c.name, x, r)
-			}
-		}
-	}
+	sample.Refused(t, calls(), right(), wrongInputs, api.ErrInvalid)
+	sample.Refused(t, reports(), right(), wrongInputs, api.OK)
 }
 
 // inputs returns valid inputs of many kinds.
@@ -145,7 +106,7 @@ func inputs() []input {
 	for range 300 {
 		x := input{s: s, l: binds(&d, 4), m: binds(&d, 4), a: d.Term(s, 1+d.Roll(20), 6), b: d.Term(s, 1+d.Roll(20), 6), v: d.Roll(12)}
 		if d.Roll(2) == 0 {
-			x.b = put(x.m, x.a)
+			x.b = sample.Put(x.m, x.a)
 		}
 		if len(x.b) > api.MaxSize {
 			x.b = x.a
@@ -162,29 +123,22 @@ func inputs() []input {
 // roomy copies input into memory with spare capacity that holds what no input
 // of a test has.
 func roomy(x input) input {
-	x.s = append(slices.Clone(x.s), api.Symbol{Name: "spare"})[:len(x.s)]
+	x.s = sample.Roomy(x.s, api.Symbol{Name: "spare"})
 	x.l, x.m = roomyBinds(x.l), roomyBinds(x.m)
-	x.a, x.b = roomyTerm(x.a), roomyTerm(x.b)
-	list := make([]api.Term, len(x.list)+1)
+	x.a, x.b = sample.Roomy(x.a, 77), sample.Roomy(x.b, 77)
+	x.list = sample.Roomy(x.list, api.Term{99})
 	for i, u := range x.list {
-		list[i] = roomyTerm(u)
+		x.list[i] = sample.Roomy(u, 77)
 	}
-	list[len(x.list)] = api.Term{99}
-	x.list = list[:len(x.list)]
 	return x
 }
 
-func roomyTerm(t api.Term) api.Term {
-	return append(slices.Clone(t), 77, 77, 77)[:len(t)]
-}
-
 func roomyBinds(l []api.Bind) []api.Bind {
-	roomy := make([]api.Bind, len(l)+1)
+	roomy := sample.Roomy(l, api.Bind{Var: 99})
 	for i, bind := range l {
-		roomy[i] = api.Bind{Var: bind.Var, To: roomyTerm(bind.To)}
+		roomy[i].To = sample.Roomy(bind.To, 77)
 	}
-	roomy[len(l)] = api.Bind{Var: 99}
-	return roomy[:len(l)]
+	return roomy
 }
 
 // all tells everything that input holds, up to the capacities of its lists.
@@ -201,57 +155,10 @@ func all(x input) string {
 	return told
 }
 
-// overwritten overwrites all lists of a result, up to their capacities, and
-// fails if that changes another one.
-func overwritten(t *testing.T, name string, r any) {
-	terms := []api.Term{}
-	switch x := r.(type) {
-	case api.Term:
-		terms = append(terms, x)
-	case []api.Bind:
-		for _, bind := range x {
-			terms = append(terms, bind.To)
-		}
-	}
-	for i, u := range terms {
-		kept := fmt.Sprint(terms[i+1:])
-		for k := range u[:cap(u)] {
-			u[:cap(u)][k] = 55
-		}
-		if fmt.Sprint(terms[i+1:]) != kept {
-			t.Errorf("%s: two terms share memory", name)
-		}
-	}
-}
-
-// R4, R7, P2.1: arguments stay as they are, also in their spare capacity;
-// whoever overwrites a result changes no argument and no later result.
+// R4, R7, P2.1
 func TestMemory(t *testing.T) {
-	for _, c := range append(calls(), reports()...) {
-		some := 0
-		for _, plain := range inputs() {
-			x := roomy(plain)
-			before := all(x)
-			r, e := c.do(x)
-			told := fmt.Sprint(r, e)
-			if all(x) != before {
-				t.Errorf("%s changes its arguments %v", c.name, plain)
-			}
-			overwritten(t, c.name, r)
-			if all(x) != before {
-				t.Errorf("%s of %v: the result shares memory with an argument", c.name, plain)
-			}
-			if again, f := c.do(x); fmt.Sprint(again, f) != told {
-				t.Errorf("%s of %v: first %s, then %v", c.name, plain, told, again)
-			}
-			if !empty(r) {
-				some++
-			}
-		}
-		if some < 10 {
-			t.Errorf("%s has only %d results", c.name, some)
-		}
-	}
+	memory := sample.Memory[input]{Roomy: roomy, All: all, Text: fmt.Sprint}
+	memory.Unshared(t, slices.Concat(calls(), reports()), inputs())
 }
 
 // R4: nil and empty lists are equivalent.

@@ -14,7 +14,7 @@ import (
 // Unifiable fit.
 func checkUnified(t *testing.T, s api.Sign, a, b api.Term, l []api.Bind) {
 	t.Helper()
-	if !unify.ValidBinds(s, l) || !unify.Solved(s, l) || !unify.Unifies(s, l, a, b) || !slices.Equal(put(l, a), put(l, b)) || !unify.Unifiable(s, a, b) {
+	if !unify.ValidBinds(s, l) || !unify.Solved(s, l) || !unify.Unifies(s, l, a, b) || !slices.Equal(sample.Put(l, a), sample.Put(l, b)) || !unify.Unifiable(s, a, b) {
 		t.Errorf("Unify(%v, %v) = %v", a, b, l)
 	}
 	free := append(slices.Clone(a), b...)
@@ -25,7 +25,7 @@ func checkUnified(t *testing.T, s api.Sign, a, b api.Term, l []api.Bind) {
 			}
 		}
 	}
-	made := put(l, a)
+	made := sample.Put(l, a)
 	u, e := unify.Unified(s, a, b)
 	if len(made) > api.MaxSize {
 		if e != api.ErrLimit || len(u) != 0 {
@@ -108,8 +108,8 @@ func TestUnifyIsMostGeneral(t *testing.T) {
 			u, _ := unify.Unified(s, a, b)
 			some := false
 			for _, m := range unifiers {
-				made := put(m, a)
-				if !slices.Equal(made, put(m, b)) {
+				made := sample.Put(m, a)
+				if !slices.Equal(made, sample.Put(m, b)) {
 					continue
 				}
 				some = true
@@ -128,74 +128,6 @@ func TestUnifyIsMostGeneral(t *testing.T) {
 	}
 }
 
-// unifier finds by substitution, one variable after the other, what makes all
-// of some equations true: a way that shares nothing with the package's own.
-func unifier(s api.Sign, left [][2]api.Term) ([]api.Bind, bool) {
-	l := []api.Bind{}
-	for len(left) > 0 {
-		a, b := left[0][0], left[0][1]
-		left = left[1:]
-		if b[0] < 0 {
-			a, b = b, a
-		}
-		if slices.Equal(a, b) {
-			continue
-		}
-		if a[0] < 0 {
-			if slices.Contains(b, a[0]) {
-				return nil, false
-			}
-			one := []api.Bind{{Var: -a[0] - 1, To: b}}
-			for i := range left {
-				left[i] = [2]api.Term{put(one, left[i][0]), put(one, left[i][1])}
-			}
-			for i := range l {
-				l[i].To = put(one, l[i].To)
-			}
-			l = append(l, one...)
-			continue
-		}
-		if a[0] != b[0] {
-			return nil, false
-		}
-		left = append(left, arguments(s, a, b)...)
-	}
-	return l, true
-}
-
-// arguments returns the pairs of arguments of terms with the same symbol.
-func arguments(s api.Sign, a, b api.Term) [][2]api.Term {
-	pairs := [][2]api.Term{}
-	i, k := 1, 1
-	for range s[a[0]].Arity {
-		toI, toK := i+1, k+1
-		for !isTerm(s, a[i:toI]) {
-			toI++
-		}
-		for !isTerm(s, b[k:toK]) {
-			toK++
-		}
-		pairs = append(pairs, [2]api.Term{a[i:toI], b[k:toK]})
-		i, k = toI, toK
-	}
-	return pairs
-}
-
-// isTerm tells whether a list is a term, however long.
-func isTerm(s api.Sign, t api.Term) bool {
-	missing := 1
-	for _, x := range t {
-		if missing == 0 {
-			return false
-		}
-		missing--
-		if x >= 0 {
-			missing += s[x].Arity
-		}
-	}
-	return missing == 0
-}
-
 // 2.3, P2.4: with random terms, against the other way.
 func TestUnifyOfRandomTerms(t *testing.T) {
 	done := map[api.Errno]int{}
@@ -203,7 +135,7 @@ func TestUnifyOfRandomTerms(t *testing.T) {
 		if len(a) > api.MaxSize || len(b) > api.MaxSize {
 			return
 		}
-		want, unifiable := unifier(s, [][2]api.Term{{a, b}})
+		want, unifiable := sample.Unifier(s, a, b)
 		l, e := unify.Unify(s, a, b)
 		done[e]++
 		if !unifiable {
@@ -223,7 +155,7 @@ func TestUnifyOfRandomTerms(t *testing.T) {
 			return
 		}
 		checkUnified(t, s, a, b, l)
-		if len(put(want, a)) <= api.MaxSize && !term.Alike(s, put(want, a), put(l, a)) {
+		if len(sample.Put(want, a)) <= api.MaxSize && !term.Alike(s, sample.Put(want, a), sample.Put(l, a)) {
 			t.Errorf("Unify(%v, %v) = %v is not most general", a, b, l)
 		}
 	})
@@ -240,7 +172,7 @@ func TestUnifyOfGreatTerms(t *testing.T) {
 		l, e := unify.Unify(s, a, b)
 		u, f := unify.Unified(s, a, b)
 		great := 1<<(n+1)-1 > api.MaxSize
-		common := len(chain(vars(1, n)...)) - n
+		common := len(sample.Chain(sample.Vars(1, n)...)) - n
 		for k := 1; k <= n; k++ {
 			common += 1<<(k+1) - 1
 		}
@@ -339,7 +271,7 @@ func TestUnifiesOfGreatTerms(t *testing.T) {
 	for range 30 {
 		wide = append(wide, api.Term{-1})
 	}
-	row := chain(wide...)
+	row := sample.Chain(wide...)
 	if !unify.Unifies(s, []api.Bind{{Var: 0, To: row}}, row, row) {
 		t.Error("Unifies of a row of rows")
 	}

@@ -1,0 +1,156 @@
+package sample
+
+import (
+	"slices"
+
+	"lemmary/api"
+)
+
+// Call is a function that is tested, for some type of input. Its uses are
+// letters for the parts of the input that it takes.
+type Call[X any] struct {
+	name, uses string
+	do         func(x X) (any, api.Errno)
+}
+
+// Of returns the call of a function with errors.
+func Of[X any](name, uses string, do func(x X) (any, api.Errno)) Call[X] {
+	return Call[X]{name: name, uses: uses, do: do}
+}
+
+// Plain returns the call of a function without errors.
+func Plain[X any](name, uses string, do func(x X) any) Call[X] {
+	return Of(name, uses, func(x X) (any, api.Errno) { return do(x), api.OK })
+}
+
+// Test is what a check needs of a test.
+type Test interface {
+	Errorf(format string, words ...any)
+}
+
+// Refused fails unless calls of right input are done, and calls of wrong input
+// return an error and nothing else. Where the error is OK, the calls are those
+// of reports: they are true of right input, and false of wrong one.
+func Refused[X any](t Test, calls []Call[X], right X, wrong func(uses string) []X, e api.Errno) {
+	for _, call := range calls {
+		if r, f := call.do(right); f != api.OK || e == api.OK && empty(r) {
+			t.Errorf("%s of right input: %v, %d", call.name, r, f)
+		}
+		for _, x := range wrong(call.uses) {
+			if r, f := call.do(x); f != e || !empty(r) {
+				t.Errorf("%s of %v: %v, %d", call.name, x, r, f)
+			}
+		}
+	}
+}
+
+// Memory is how the memory of input is looked at: a copy with spare capacity
+// everywhere, and the text of all that input holds, also there.
+type Memory[X any] struct {
+	Roomy func(x X) X
+	All   func(x X) string
+	Text  func(words ...any) string // fmt.Sprint, which this package may not import
+}
+
+// Unshared fails if a call changes its input, also in its spare capacity, if who
+// overwrites its result changes the input, another part of the result or a later
+// result, or if it has but a few results that are not empty.
+func (m Memory[X]) Unshared(t Test, calls []Call[X], inputs []X) {
+	for _, call := range calls {
+		some := 0
+		for _, plain := range inputs {
+			x := m.Roomy(plain)
+			before := m.All(x)
+			r, e := call.do(x)
+			told := m.Text(r, e)
+			if m.All(x) != before {
+				t.Errorf("%s changes its input %v", call.name, plain)
+			}
+			if !empty(r) {
+				some++
+			}
+			m.overwrite(t, call.name, r)
+			if m.All(x) != before {
+				t.Errorf("%s of %v: the result shares memory with the input", call.name, plain)
+			}
+			if again, f := call.do(x); m.Text(again, f) != told {
+				t.Errorf("%s of %v: first %s, then %v", call.name, plain, told, again)
+			}
+		}
+		if some < 10 {
+			t.Errorf("%s has only %d results", call.name, some)
+		}
+	}
+}
+
+// overwrite overwrites all lists of a result, up to their capacities.
+func (m Memory[X]) overwrite(t Test, name string, r any) {
+	lists := numbers(r)
+	for i, list := range lists {
+		others := m.Text(lists[i+1:])
+		for k := range list[:cap(list)] {
+			list[:cap(list)][k] = 55
+		}
+		if m.Text(lists[i+1:]) != others {
+			t.Errorf("%s: two lists of the result share memory", name)
+		}
+	}
+	if p, is := r.([]api.Step); is {
+		clear(p[:cap(p)])
+	}
+}
+
+// empty tells whether a result is its zero value; a list may also be empty.
+func empty(r any) bool {
+	switch x := r.(type) {
+	case bool:
+		return !x
+	case int:
+		return x == 0
+	case string:
+		return x == ""
+	case []int:
+		return len(x) == 0
+	case api.Term:
+		return len(x) == 0
+	case []api.Term:
+		return len(x) == 0
+	case []api.Bind:
+		return len(x) == 0
+	case []api.Way:
+		return len(x) == 0
+	case []api.Step:
+		return len(x) == 0
+	case []any:
+		return !slices.ContainsFunc(x, func(part any) bool { return !empty(part) })
+	}
+	panic("a result of a type that is not known here")
+}
+
+// numbers returns all lists of numbers of a result.
+func numbers(r any) [][]int {
+	lists := [][]int{}
+	switch x := r.(type) {
+	case []int:
+		lists = append(lists, x)
+	case api.Term:
+		lists = append(lists, x)
+	case []api.Term:
+		for _, t := range x {
+			lists = append(lists, t)
+		}
+	case []api.Bind:
+		for _, bind := range x {
+			lists = append(lists, bind.To)
+		}
+	case []api.Way:
+		for _, way := range x {
+			lists = append(lists, way.Args)
+		}
+	case []any:
+		for _, part := range x {
+			lists = append(lists, numbers(part)...)
+		}
+	}
+	return lists
+}
