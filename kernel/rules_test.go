@@ -194,10 +194,7 @@ func inputs() []input {
 func roomy(x input) input {
 	x.s = sample.Roomy(x.s, api.Symbol{Name: "spare"})
 	x.m, x.n, x.t, x.to = sample.Roomy(x.m, 77), sample.Roomy(x.n, 77), sample.Roomy(x.t, 77), sample.Roomy(x.to, 77)
-	x.g = sample.Roomy(x.g, api.Term{99})
-	for i, u := range x.g {
-		x.g[i] = sample.Roomy(u, 77)
-	}
+	x.g = sample.RoomyTerms(x.g)
 	x.p, x.q = sample.Roomy(x.p, sample.Cite(88)), sample.Roomy(x.q, sample.Cite(88))
 	return x
 }

@@ -44,6 +44,15 @@ func Refused[X any](t Test, calls []Call[X], right X, wrong func(uses string) []
 	}
 }
 
+// Same fails unless a call of two inputs has the same result.
+func Same[X any](t Test, call Call[X], x, y X, text func(words ...any) string) {
+	a, e := call.do(x)
+	b, f := call.do(y)
+	if e != f || text(a) != text(b) {
+		t.Errorf("%s of %v is %v, %d, but of %v it is %v, %d", call.name, x, a, e, y, b, f)
+	}
+}
+
 // Memory is how the memory of input is looked at: a copy with spare capacity
 // everywhere, and the text of all that input holds, also there.
 type Memory[X any] struct {
@@ -95,7 +104,12 @@ func (m Memory[X]) overwrite(t Test, name string, r any) {
 			t.Errorf("%s: two lists of the result share memory", name)
 		}
 	}
-	if p, is := r.([]api.Step); is {
+	switch p := r.(type) {
+	case []api.Step:
+		clear(p[:cap(p)])
+	case [][]int:
+		clear(p[:cap(p)])
+	case [][2]int:
 		clear(p[:cap(p)])
 	}
 }
@@ -110,6 +124,10 @@ func empty(r any) bool {
 	case string:
 		return x == ""
 	case []int:
+		return len(x) == 0
+	case [][]int:
+		return len(x) == 0
+	case [][2]int:
 		return len(x) == 0
 	case api.Term:
 		return len(x) == 0
@@ -133,6 +151,8 @@ func numbers(r any) [][]int {
 	switch x := r.(type) {
 	case []int:
 		lists = append(lists, x)
+	case [][]int:
+		lists = append(lists, x...)
 	case api.Term:
 		lists = append(lists, x)
 	case []api.Term:

@@ -126,10 +126,7 @@ func roomy(x input) input {
 	x.s = sample.Roomy(x.s, api.Symbol{Name: "spare"})
 	x.l, x.m = roomyBinds(x.l), roomyBinds(x.m)
 	x.a, x.b = sample.Roomy(x.a, 77), sample.Roomy(x.b, 77)
-	x.list = sample.Roomy(x.list, api.Term{99})
-	for i, u := range x.list {
-		x.list[i] = sample.Roomy(u, 77)
-	}
+	x.list = sample.RoomyTerms(x.list)
 	return x
 }
 
