@@ -43,18 +43,8 @@ func detached(s api.Sign, m, n api.Term) (api.Term, api.Errno) {
 
 // form returns the canonical form of a term that may be too great for a term.
 func form(t api.Term) (api.Term, api.Errno) {
-	vars := []int{}
-	u := slices.Clone(t)
-	for i, x := range t {
-		if x >= 0 {
-			continue
-		}
-		if !slices.Contains(vars, x) {
-			vars = append(vars, x)
-		}
-		u[i] = -slices.Index(vars, x) - 1
-	}
-	if len(u) > api.MaxSize || len(vars) > api.MaxVars {
+	u := sample.Form(t)
+	if len(u) > api.MaxSize || slices.Min(u) < -api.MaxVars {
 		return nil, api.ErrLimit
 	}
 	return u, api.OK

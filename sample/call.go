@@ -23,6 +23,11 @@ func Plain[X any](name, uses string, do func(x X) any) Call[X] {
 	return Of(name, uses, func(x X) (any, api.Errno) { return do(x), api.OK })
 }
 
+// Name returns the name of the function.
+func (c Call[X]) Name() string {
+	return c.name
+}
+
 // Test is what a check needs of a test.
 type Test interface {
 	Errorf(format string, words ...any)
@@ -94,24 +99,32 @@ func (m Memory[X]) Unshared(t Test, calls []Call[X], inputs []X) {
 
 // overwrite overwrites all lists of a result, up to their capacities.
 func (m Memory[X]) overwrite(t Test, name string, r any) {
-	lists := numbers(r)
-	for i, list := range lists {
-		others := m.Text(lists[i+1:])
-		for k := range list[:cap(list)] {
-			list[:cap(list)][k] = 55
-		}
-		if m.Text(lists[i+1:]) != others {
-			t.Errorf("%s: two lists of the result share memory", name)
-		}
+	apart := overwritten(numbers(r), 55, m.Text) && overwritten(words(r), "overwritten", m.Text) && overwritten(proofs(r), Cite(55), m.Text)
+	if !apart {
+		t.Errorf("%s: two lists of the result share memory", name)
 	}
 	switch p := r.(type) {
-	case []api.Step:
-		clear(p[:cap(p)])
 	case [][]int:
 		clear(p[:cap(p)])
 	case [][2]int:
 		clear(p[:cap(p)])
+	case []api.Entry:
+		clear(p[:cap(p)])
 	}
+}
+
+// overwritten overwrites lists, up to their capacities, and reports whether each
+// of them leaves those behind it as they are.
+func overwritten[E any](lists [][]E, with E, text func(words ...any) string) bool {
+	apart := true
+	for i, list := range lists {
+		others := text(lists[i+1:])
+		for k := range list[:cap(list)] {
+			list[:cap(list)][k] = with
+		}
+		apart = apart && text(lists[i+1:]) == others
+	}
+	return apart
 }
 
 // empty tells whether a result is its zero value; a list may also be empty.
@@ -138,6 +151,10 @@ func empty(r any) bool {
 	case []api.Way:
 		return len(x) == 0
 	case []api.Step:
+		return len(x) == 0
+	case []string:
+		return len(x) == 0
+	case []api.Entry:
 		return len(x) == 0
 	case []any:
 		return !slices.ContainsFunc(x, func(part any) bool { return !empty(part) })
@@ -167,9 +184,41 @@ func numbers(r any) [][]int {
 		for _, way := range x {
 			lists = append(lists, way.Args)
 		}
+	case []api.Entry:
+		for _, entry := range x {
+			lists = append(lists, entry.Says)
+		}
 	case []any:
 		for _, part := range x {
 			lists = append(lists, numbers(part)...)
+		}
+	}
+	return lists
+}
+
+// words returns all lists of strings of a result.
+func words(r any) [][]string {
+	lists := [][]string{}
+	switch x := r.(type) {
+	case []string:
+		lists = append(lists, x)
+	case []api.Entry:
+		for _, entry := range x {
+			lists = append(lists, entry.Uses)
+		}
+	}
+	return lists
+}
+
+// proofs returns all lists of steps of a result.
+func proofs(r any) [][]api.Step {
+	lists := [][]api.Step{}
+	switch x := r.(type) {
+	case []api.Step:
+		lists = append(lists, x)
+	case []api.Entry:
+		for _, entry := range x {
+			lists = append(lists, entry.Proof)
 		}
 	}
 	return lists

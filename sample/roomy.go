@@ -21,3 +21,25 @@ func RoomyTerms(list []api.Term) []api.Term {
 	}
 	return terms
 }
+
+// RoomyEntries copies entries, and their list, into memory with spare capacity,
+// which holds something that no entry of a test has.
+func RoomyEntries(list []api.Entry) []api.Entry {
+	entries := Roomy(list, api.Entry{Name: "spare"})
+	for i, x := range list {
+		entries[i].Says = Roomy(x.Says, 77)
+		entries[i].Uses = Roomy(x.Uses, "spare")
+		entries[i].Proof = Roomy(x.Proof, Cite(77))
+	}
+	return entries
+}
+
+// AllOfEntries tells everything that entries hold, up to the capacities of their
+// lists.
+func AllOfEntries(list []api.Entry, text func(words ...any) string) string {
+	told := ""
+	for _, x := range list[:cap(list)] {
+		told += text(x.Name, x.By, x.Says[:cap(x.Says)], x.Uses[:cap(x.Uses)], x.Proof[:cap(x.Proof)])
+	}
+	return told
+}

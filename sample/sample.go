@@ -1,6 +1,6 @@
 // Package sample is for the tests of all layers: it makes signs, terms,
-// dictionaries, proofs and numbers, has a second way to unify, and checks what
-// holds for all functions. No layer uses it.
+// dictionaries, proofs, libraries and numbers, has a second way to unify, and
+// checks what holds for all functions. No layer uses it.
 package sample
 
 import (
