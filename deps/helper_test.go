@@ -168,10 +168,3 @@ func sameEntries(a, b []api.Entry) bool {
 		return same && slices.Equal(x.Uses, y.Uses) && slices.Equal(x.Proof, y.Proof)
 	})
 }
-
-func shuffle[E any](d *sample.Dice, list []E) {
-	for i := len(list) - 1; i > 0; i-- {
-		k := d.Roll(i + 1)
-		list[i], list[k] = list[k], list[i]
-	}
-}

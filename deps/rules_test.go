@@ -165,8 +165,8 @@ func TestOrderMeansNothing(t *testing.T) {
 	for _, x := range inputs() {
 		y := x
 		y.l, y.c = slices.Clone(x.l), slices.Clone(x.c)
-		shuffle(&d, y.l)
-		shuffle(&d, y.c)
+		sample.Shuffle(&d, y.l)
+		sample.Shuffle(&d, y.c)
 		for _, call := range slices.Concat(calls(), reports()) {
 			if !slices.Contains(byIndex(), call.Name()) {
 				sample.Same(t, call, x, y, fmt.Sprint)

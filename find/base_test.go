@@ -88,7 +88,7 @@ func bases(count int, visit func(b []int)) {
 // isBase tells by the chapter's words whether a set of indexes is a base.
 func isBase(s api.Sign, l []api.Term, b []int) bool {
 	for _, t := range l {
-		if !slices.ContainsFunc(b, func(i int) bool { return instance(s, l[i], t) }) {
+		if !slices.ContainsFunc(b, func(i int) bool { return sample.Instance(s, l[i], t) }) {
 			return false
 		}
 	}
@@ -138,7 +138,7 @@ func TestBaseHasNoInstances(t *testing.T) {
 		}
 		for _, i := range base {
 			for _, k := range base {
-				if i != k && instance(s, l[i], l[k]) {
+				if i != k && sample.Instance(s, l[i], l[k]) {
 					t.Errorf("Base(%v) = %v", l, base)
 				}
 			}
@@ -194,7 +194,7 @@ func TestOrderOfRandomShelves(t *testing.T) {
 		}
 		pairs += len(got)
 		for i, u := range l {
-			want := picked(l, func(v api.Term) bool { return instance(s, v, u) && !alike(s, v, u) })
+			want := picked(l, func(v api.Term) bool { return sample.Instance(s, v, u) && !alike(s, v, u) })
 			if got, e := find.Over(s, l, i); e != api.OK || !slices.Equal(got, want) {
 				t.Errorf("Over(%v, %d) = %v, %d", l, i, got, e)
 			}
@@ -208,7 +208,7 @@ func TestOrderOfRandomShelves(t *testing.T) {
 // lattice is the chapter's words: it looks for a statement in between among all
 // of them, and not only among the first ones of groups.
 func lattice(s api.Sign, l []api.Term) [][2]int {
-	over := func(i, k int) bool { return instance(s, l[i], l[k]) && !instance(s, l[k], l[i]) }
+	over := func(i, k int) bool { return sample.Instance(s, l[i], l[k]) && !sample.Instance(s, l[k], l[i]) }
 	first := func(i int) bool {
 		return !slices.ContainsFunc(l[:i], func(u api.Term) bool { return alike(s, u, l[i]) })
 	}

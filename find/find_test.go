@@ -53,8 +53,8 @@ type search struct {
 func searches() []search {
 	return []search{
 		{"Meeting", find.Meeting, meets},
-		{"Instances", find.Instances, func(s api.Sign, t, q api.Term) bool { return instance(s, q, t) }},
-		{"Generals", find.Generals, instance},
+		{"Instances", find.Instances, func(s api.Sign, t, q api.Term) bool { return sample.Instance(s, q, t) }},
+		{"Generals", find.Generals, sample.Instance},
 		{"Alike", find.Alike, alike},
 		{"Shaped", find.Shaped, func(s api.Sign, t, q api.Term) bool { return sameShape(t, q) }},
 		{"Having", find.Having, having},

@@ -106,7 +106,7 @@ func TestGroupsOfPermutedShelf(t *testing.T) {
 		for i := range order {
 			order[i] = i
 		}
-		shuffle(&d, order)
+		sample.Shuffle(&d, order)
 		permuted := make([]api.Term, len(l))
 		for i, from := range order {
 			permuted[i] = l[from]

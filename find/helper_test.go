@@ -25,22 +25,9 @@ func meets(s api.Sign, a, b api.Term) bool {
 	return same
 }
 
-// instance tells in another way whether b is an instance of a: the variables of
-// b are symbols of their own, so that nothing can be put in their places.
-func instance(s api.Sign, a, b api.Term) bool {
-	frozen := slices.Clone(b)
-	for i, x := range b {
-		if x < 0 {
-			frozen[i] = len(s) - x - 1
-		}
-	}
-	_, same := sample.Unifier(append(slices.Clone(s), make(api.Sign, api.MaxVars)...), a, frozen)
-	return same
-}
-
 // alike tells in another way whether terms are alike.
 func alike(s api.Sign, a, b api.Term) bool {
-	return instance(s, a, b) && instance(s, b, a)
+	return sample.Instance(s, a, b) && sample.Instance(s, b, a)
 }
 
 // sameShape tells whether terms differ but in their variables.
@@ -64,7 +51,7 @@ func paths(s api.Sign, t api.Term) [][]int {
 func where(s api.Sign, t, q api.Term) [][]int {
 	return slices.DeleteFunc(paths(s, t), func(path []int) bool {
 		part, _ := term.At(s, t, path)
-		return !instance(s, q, part)
+		return !sample.Instance(s, q, part)
 	})
 }
 
@@ -98,7 +85,7 @@ func renamed(d *sample.Dice, t api.Term) api.Term {
 	for i := range to {
 		to[i] = -i - 1
 	}
-	shuffle(d, to)
+	sample.Shuffle(d, to)
 	u := slices.Clone(t)
 	for i, x := range t {
 		if x < 0 {
@@ -106,13 +93,6 @@ func renamed(d *sample.Dice, t api.Term) api.Term {
 		}
 	}
 	return u
-}
-
-func shuffle[E any](d *sample.Dice, list []E) {
-	for i := len(list) - 1; i > 0; i-- {
-		k := d.Roll(i + 1)
-		list[i], list[k] = list[k], list[i]
-	}
 }
 
 // changed returns what small terms in place of some variables make of a term,
@@ -142,7 +122,7 @@ func shelves(count, most int, visit func(s api.Sign, l []api.Term, q api.Term)) 
 			l = append(l, next(&d, s, l[d.Roll(len(l))]))
 		}
 		q := next(&d, s, l[d.Roll(len(l))])
-		shuffle(&d, l)
+		sample.Shuffle(&d, l)
 		visit(s, l, q)
 	}
 }

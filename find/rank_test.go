@@ -90,7 +90,7 @@ func TestClosenessOfRandomShelves(t *testing.T) {
 			if join, e := unify.Join(s, u, q); e == api.OK && got != symbols(join) {
 				t.Errorf("Closeness(%v, %v) = %d, but the join is %v", u, q, got, join)
 			}
-			if got > min(symbols(u), symbols(q)) || instance(s, q, u) && got != symbols(q) {
+			if got > min(symbols(u), symbols(q)) || sample.Instance(s, q, u) && got != symbols(q) {
 				t.Errorf("Closeness(%v, %v) = %d", u, q, got)
 			}
 		}

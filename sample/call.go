@@ -220,6 +220,10 @@ func proofs(r any) [][]api.Step {
 		for _, entry := range x {
 			lists = append(lists, entry.Proof)
 		}
+	case []any:
+		for _, part := range x {
+			lists = append(lists, proofs(part)...)
+		}
 	}
 	return lists
 }

@@ -32,3 +32,11 @@ func (d *Dice) Term(s api.Sign, most, vars int) api.Term {
 	}
 	return t
 }
+
+// Shuffle brings a list into another order.
+func Shuffle[E any](d *Dice, list []E) {
+	for i := len(list) - 1; i > 0; i-- {
+		k := d.Roll(i + 1)
+		list[i], list[k] = list[k], list[i]
+	}
+}

@@ -83,6 +83,20 @@ func Unifier(s api.Sign, t, u api.Term) ([]api.Bind, bool) {
 	return l, true
 }
 
+// Instance tells in another way than those of the layers whether b is an instance
+// of a: the variables of b are symbols of their own, so that nothing can be put
+// in their places.
+func Instance(s api.Sign, a, b api.Term) bool {
+	frozen := slices.Clone(b)
+	for i, x := range b {
+		if x < 0 {
+			frozen[i] = len(s) - x - 1
+		}
+	}
+	_, same := Unifier(append(slices.Clone(s), make(api.Sign, api.MaxVars)...), a, frozen)
+	return same
+}
+
 // arguments returns the pairs of arguments of terms with the same symbol.
 func arguments(s api.Sign, a, b api.Term) [][2]api.Term {
 	pairs := [][2]api.Term{}
