@@ -108,6 +108,8 @@ func (m Memory[X]) overwrite(t Test, name string, r any) {
 		clear(p[:cap(p)])
 	case [][2]int:
 		clear(p[:cap(p)])
+	case [][2]string:
+		clear(p[:cap(p)])
 	case []api.Entry:
 		clear(p[:cap(p)])
 	}
@@ -154,8 +156,12 @@ func empty(r any) bool {
 		return len(x) == 0
 	case []string:
 		return len(x) == 0
+	case [][2]string:
+		return len(x) == 0
 	case []api.Entry:
 		return len(x) == 0
+	case api.Entry:
+		return x.Name == "" && x.By == "" && len(x.Says) == 0 && len(x.Uses) == 0 && len(x.Proof) == 0
 	case []any:
 		return !slices.ContainsFunc(x, func(part any) bool { return !empty(part) })
 	}
@@ -188,6 +194,8 @@ func numbers(r any) [][]int {
 		for _, entry := range x {
 			lists = append(lists, entry.Says)
 		}
+	case api.Entry:
+		return numbers([]api.Entry{x})
 	case []any:
 		for _, part := range x {
 			lists = append(lists, numbers(part)...)
@@ -206,6 +214,8 @@ func words(r any) [][]string {
 		for _, entry := range x {
 			lists = append(lists, entry.Uses)
 		}
+	case api.Entry:
+		return words([]api.Entry{x})
 	}
 	return lists
 }
@@ -220,6 +230,8 @@ func proofs(r any) [][]api.Step {
 		for _, entry := range x {
 			lists = append(lists, entry.Proof)
 		}
+	case api.Entry:
+		return proofs([]api.Entry{x})
 	case []any:
 		for _, part := range x {
 			lists = append(lists, proofs(part)...)

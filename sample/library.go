@@ -92,9 +92,10 @@ func Names(count int) []string {
 type Says func(g []api.Term, p []api.Step) (api.Term, api.Errno)
 
 // Sound returns a library of up to most entries, all of which hold, in which
-// each cites only earlier ones, and which are called in no order.
-func (d *Dice) Sound(most int, says Says) []api.Entry {
-	l := d.axioms(1 + d.Roll(most))
+// each cites only earlier ones, and which are called in no order. Axioms may say
+// more than they do otherwise.
+func (d *Dice) Sound(most int, says Says, more ...api.Term) []api.Entry {
+	l := d.axioms(1+d.Roll(most), more)
 	for i := range l {
 		if i > 0 && d.Roll(4) > 0 {
 			d.prove(l, i, l[:i], says)
@@ -104,9 +105,10 @@ func (d *Dice) Sound(most int, says Says) []api.Entry {
 }
 
 // Library returns a library of up to most entries, some of which may cite names
-// that are missing, lean on themselves, or not hold.
-func (d *Dice) Library(most int, says Says) []api.Entry {
-	l := d.axioms(1 + d.Roll(most))
+// that are missing, lean on themselves, or not hold. Axioms may say more than
+// they do otherwise.
+func (d *Dice) Library(most int, says Says, more ...api.Term) []api.Entry {
+	l := d.axioms(1+d.Roll(most), more)
 	others := slices.Clone(l)
 	for range d.Roll(3) {
 		others = append(others, api.Entry{Name: "m" + strconv.Itoa(d.Roll(3)), Says: K()})
@@ -123,14 +125,15 @@ func (d *Dice) Library(most int, says Says) []api.Entry {
 	return l
 }
 
-// axioms returns axioms, with names in no order, that say few different things.
-func (d *Dice) axioms(count int) []api.Entry {
+// axioms returns axioms, with names in no order, that say few different things,
+// some of them more than usual.
+func (d *Dice) axioms(count int, more []api.Term) []api.Entry {
 	names := Names(count)
+	choice := append([]api.Term{K(), S(), {0, -1, -1}, {0, -1, -2}, {0, 0, -1, -2, 0, -1, -1}, {1, -1}, {-1}}, more...)
 	l := make([]api.Entry, count)
 	for i := range l {
 		at := d.Roll(len(names))
-		choice := []api.Term{K(), S(), {0, -1, -1}, {0, -1, -2}, {0, 0, -1, -2, 0, -1, -1}, {1, -1}, {-1}}
-		l[i] = api.Entry{Name: names[at], By: []string{"ann", "bob", "cy"}[d.Roll(3)], Says: choice[d.Roll(len(choice))]}
+		l[i] = api.Entry{Name: names[at], By: []string{"ann", "bob", "cy"}[d.Roll(3)], Says: slices.Clone(choice[d.Roll(len(choice))])}
 		names = slices.Delete(names, at, at+1)
 	}
 	return l
