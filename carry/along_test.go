@@ -90,7 +90,7 @@ func TestMoved(t *testing.T) {
 				want.Uses, want.Proof = want.Uses[:1], []api.Step{c(0), d(0, 0)}
 			}
 		}
-		if !sameEntries([]api.Entry{x}, []api.Entry{want}) {
+		if !sample.SameEntries([]api.Entry{x}, []api.Entry{want}) {
 			t.Errorf("Moved along %s of %s = %v", move.along, move.name, x)
 		}
 	}

@@ -58,7 +58,7 @@ func TestCarried(t *testing.T) {
 				changed++
 			}
 		}
-		if got, e := carry.Carried(a, b, d, l); e != api.OK || !sameEntries(got, want) || !deps.Valid(b, got) {
+		if got, e := carry.Carried(a, b, d, l); e != api.OK || !sample.SameEntries(got, want) || !deps.Valid(b, got) {
 			t.Errorf("Carried(%v, %v) = %v, %d", d, l, got, e)
 		}
 	})
@@ -87,7 +87,7 @@ func TestCarriedIsSound(t *testing.T) {
 			t.Errorf("of %v fails %v; carried by %v: %v", l, failed, d, failing)
 		}
 		inverse, _ := tongue.Inverse(a, b, d)
-		if back, e := carry.Carried(b, a, inverse, got); e != api.OK || !sameEntries(back, l) {
+		if back, e := carry.Carried(b, a, inverse, got); e != api.OK || !sample.SameEntries(back, l) {
 			t.Errorf("%v, carried by %v and back, is %v, %d", l, d, back, e)
 		}
 		done[is]++
@@ -164,10 +164,10 @@ func TestAdded(t *testing.T) {
 	s, l := sample.Sign(), sample.Library()
 	x := api.Entry{Name: "self", By: "k", Says: api.Term{2}, Uses: []string{"gone", "self"}, Proof: sample.Doubling(3)}
 	got, e := carry.Added(s, l, x)
-	if e != api.OK || !sameEntries(got, append(sample.Library(), x)) {
+	if e != api.OK || !sample.SameEntries(got, append(sample.Library(), x)) {
 		t.Errorf("Added = %v, %d", got, e)
 	}
-	if got, e := carry.Added(s, nil, x); e != api.OK || !sameEntries(got, []api.Entry{x}) {
+	if got, e := carry.Added(s, nil, x); e != api.OK || !sample.SameEntries(got, []api.Entry{x}) {
 		t.Errorf("Added to nothing = %v, %d", got, e)
 	}
 	for i := range l {

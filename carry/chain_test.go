@@ -25,7 +25,7 @@ func checkChain(t *testing.T, l []api.Entry, first, second, want string, wrong a
 	if wrong == api.OK {
 		want = "entry chain by cy says " + want + "\n"
 	}
-	if e != wrong || text != want || e != api.OK && !sameEntries([]api.Entry{x}, []api.Entry{{}}) {
+	if e != wrong || text != want || e != api.OK && !sample.SameEntries([]api.Entry{x}, []api.Entry{{}}) {
 		t.Errorf("Chain(%s, %s) = %q, %d; want %q, %d", first, second, text, e, want, wrong)
 	}
 	if e == api.OK {
@@ -86,7 +86,7 @@ func TestChainErrors(t *testing.T) {
 			checkChain(t, read(text), test.first, test.second, "", wrong)
 		}
 	}
-	if x, e := carry.Chain(sample.Sign(), sample.Library(), "k", "i", "k", "cy"); e != api.ErrDuplicate || !sameEntries([]api.Entry{x}, []api.Entry{{}}) {
+	if x, e := carry.Chain(sample.Sign(), sample.Library(), "k", "i", "k", "cy"); e != api.ErrDuplicate || !sample.SameEntries([]api.Entry{x}, []api.Entry{{}}) {
 		t.Errorf("Chain = %v, %d", x, e)
 	}
 	if x, e := carry.Chain(sample.Sign(), sample.Library(), "k", "i", "ki", "cy"); e != api.OK || !slices.Equal(x.Says, sample.K()) {

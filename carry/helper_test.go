@@ -132,13 +132,6 @@ func stepError(s api.Sign, l []api.Entry, name string) api.Errno {
 	return e
 }
 
-func sameEntries(a, b []api.Entry) bool {
-	return slices.EqualFunc(a, b, func(x, y api.Entry) bool {
-		same := x.Name == y.Name && x.By == y.By && slices.Equal(x.Says, y.Says)
-		return same && slices.Equal(x.Uses, y.Uses) && slices.Equal(x.Proof, y.Proof)
-	})
-}
-
 func sameTerms(a, b []api.Term) bool {
 	return slices.EqualFunc(a, b, func(x, y api.Term) bool { return slices.Equal(x, y) })
 }

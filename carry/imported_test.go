@@ -226,7 +226,7 @@ func TestImportedRandom(t *testing.T) {
 		}
 		want, met, wrong := imported(l, m, prefix)
 		got, e := carry.Imported(logic(), l, m, prefix)
-		if e != wrong || !sameEntries(got, want) || !deps.Valid(logic(), got) {
+		if e != wrong || !sample.SameEntries(got, want) || !deps.Valid(logic(), got) {
 			t.Errorf("Imported(%v, %v, %q) = %v, %d; want %v, %d", l, m, prefix, got, e, want, wrong)
 		}
 		if got, e := carry.Met(logic(), l, m); e != api.OK || !slices.Equal(got, met) {

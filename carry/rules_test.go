@@ -59,15 +59,7 @@ func calls() []sample.Call[input] {
 
 // wrongInputs returns inputs of which one field that a call uses is wrong.
 func wrongInputs(uses string) []input {
-	wrong := []input{}
-	for _, use := range uses {
-		for _, change := range wrongs(use) {
-			x := right()
-			change(&x)
-			wrong = append(wrong, x)
-		}
-	}
-	return wrong
+	return sample.Changed(uses, right, wrongs)
 }
 
 // wrongs has what makes a field of right input wrong.

@@ -161,10 +161,3 @@ func with(l []api.Entry, i int, change func(x *api.Entry)) []api.Entry {
 func without(l []api.Entry, i int) []api.Entry {
 	return slices.Delete(slices.Clone(l), i, i+1)
 }
-
-func sameEntries(a, b []api.Entry) bool {
-	return slices.EqualFunc(a, b, func(x, y api.Entry) bool {
-		same := x.Name == y.Name && x.By == y.By && slices.Equal(x.Says, y.Says)
-		return same && slices.Equal(x.Uses, y.Uses) && slices.Equal(x.Proof, y.Proof)
-	})
-}

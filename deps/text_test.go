@@ -32,7 +32,7 @@ func TestFormat(t *testing.T) {
 		if text := deps.Format(s, test.l); text != test.text {
 			t.Errorf("Format(%v) = %q", test.l, text)
 		}
-		if l, line, e := deps.Parse(s, test.text); e != api.OK || line != 0 || !sameEntries(l, test.l) {
+		if l, line, e := deps.Parse(s, test.text); e != api.OK || line != 0 || !sample.SameEntries(l, test.l) {
 			t.Errorf("Parse(%q) = %v, %d, %d", test.text, l, line, e)
 		}
 	}
@@ -51,7 +51,7 @@ func TestFormatOfOtherSigns(t *testing.T) {
 	if deps.Format(s, l) != text {
 		t.Errorf("Format = %q", deps.Format(s, l))
 	}
-	if back, line, e := deps.Parse(s, text); e != api.OK || line != 0 || !sameEntries(back, l) {
+	if back, line, e := deps.Parse(s, text); e != api.OK || line != 0 || !sample.SameEntries(back, l) {
 		t.Errorf("Parse = %v, %d, %d", back, line, e)
 	}
 	if back, line, e := deps.Parse(sample.Sign(), text); e != api.ErrSyntax || line != 0 || len(back) != 0 {
@@ -205,7 +205,7 @@ func TestParseLong(t *testing.T) {
 	}
 	l := longLibrary()
 	text := deps.Format(sample.Sign(), l)
-	if back, line, e := deps.Parse(sample.Sign(), text); len(text) != api.MaxText || e != api.OK || line != 0 || !sameEntries(back, l) {
+	if back, line, e := deps.Parse(sample.Sign(), text); len(text) != api.MaxText || e != api.OK || line != 0 || !sample.SameEntries(back, l) {
 		t.Errorf("%d bytes: %d, %d", len(text), line, e)
 	}
 	l[0].By = "bobb"
@@ -241,7 +241,7 @@ func TestParseOfFormat(t *testing.T) {
 	s := sample.Sign()
 	libraries(1000, 20, func(l []api.Entry) {
 		text := deps.Format(s, l)
-		if back, line, e := deps.Parse(s, text); e != api.OK || line != 0 || !sameEntries(back, l) {
+		if back, line, e := deps.Parse(s, text); e != api.OK || line != 0 || !sample.SameEntries(back, l) {
 			t.Errorf("Parse(%q) = %v, %d, %d", text, back, line, e)
 		}
 	})

@@ -49,6 +49,19 @@ func Refused[X any](t Test, calls []Call[X], right X, wrong func(uses string) []
 	}
 }
 
+// Changed returns right input after each single change that there is for a use.
+func Changed[X any](uses string, right func() X, changes func(use rune) []func(x *X)) []X {
+	list := []X{}
+	for _, use := range uses {
+		for _, change := range changes(use) {
+			x := right()
+			change(&x)
+			list = append(list, x)
+		}
+	}
+	return list
+}
+
 // Same fails unless a call of two inputs has the same result.
 func Same[X any](t Test, call Call[X], x, y X, text func(words ...any) string) {
 	a, e := call.do(x)
@@ -112,6 +125,10 @@ func (m Memory[X]) overwrite(t Test, name string, r any) {
 		clear(p[:cap(p)])
 	case []api.Entry:
 		clear(p[:cap(p)])
+	case []api.Change:
+		clear(p[:cap(p)])
+	case []api.Mark:
+		clear(p[:cap(p)])
 	}
 }
 
@@ -160,12 +177,37 @@ func empty(r any) bool {
 		return len(x) == 0
 	case []api.Entry:
 		return len(x) == 0
+	case []api.Change:
+		return len(x) == 0
+	case []api.Mark:
+		return len(x) == 0
 	case api.Entry:
 		return x.Name == "" && x.By == "" && len(x.Says) == 0 && len(x.Uses) == 0 && len(x.Proof) == 0
+	case api.Change:
+		return x.Kind == 0 && x.By == "" && x.Name == "" && x.New == "" && empty(x.Entry)
 	case []any:
 		return !slices.ContainsFunc(x, func(part any) bool { return !empty(part) })
 	}
 	panic("a result of a type that is not known here")
+}
+
+// entries returns all entries of a result.
+func entries(r any) []api.Entry {
+	switch x := r.(type) {
+	case []api.Entry:
+		return x
+	case api.Entry:
+		return []api.Entry{x}
+	case api.Change:
+		return []api.Entry{x.Entry}
+	case []api.Change:
+		list := []api.Entry{}
+		for _, change := range x {
+			list = append(list, change.Entry)
+		}
+		return list
+	}
+	return nil
 }
 
 // numbers returns all lists of numbers of a result.
@@ -190,16 +232,13 @@ func numbers(r any) [][]int {
 		for _, way := range x {
 			lists = append(lists, way.Args)
 		}
-	case []api.Entry:
-		for _, entry := range x {
-			lists = append(lists, entry.Says)
-		}
-	case api.Entry:
-		return numbers([]api.Entry{x})
 	case []any:
 		for _, part := range x {
 			lists = append(lists, numbers(part)...)
 		}
+	}
+	for _, entry := range entries(r) {
+		lists = append(lists, entry.Says)
 	}
 	return lists
 }
@@ -210,12 +249,13 @@ func words(r any) [][]string {
 	switch x := r.(type) {
 	case []string:
 		lists = append(lists, x)
-	case []api.Entry:
-		for _, entry := range x {
-			lists = append(lists, entry.Uses)
+	case []any:
+		for _, part := range x {
+			lists = append(lists, words(part)...)
 		}
-	case api.Entry:
-		return words([]api.Entry{x})
+	}
+	for _, entry := range entries(r) {
+		lists = append(lists, entry.Uses)
 	}
 	return lists
 }
@@ -226,16 +266,13 @@ func proofs(r any) [][]api.Step {
 	switch x := r.(type) {
 	case []api.Step:
 		lists = append(lists, x)
-	case []api.Entry:
-		for _, entry := range x {
-			lists = append(lists, entry.Proof)
-		}
-	case api.Entry:
-		return proofs([]api.Entry{x})
 	case []any:
 		for _, part := range x {
 			lists = append(lists, proofs(part)...)
 		}
+	}
+	for _, entry := range entries(r) {
+		lists = append(lists, entry.Proof)
 	}
 	return lists
 }

@@ -163,6 +163,14 @@ func (d *Dice) prove(l []api.Entry, i int, others []api.Entry, says Says) {
 	l[i].Uses, l[i].Proof, l[i].Says = uses, p, t
 }
 
+// SameEntries reports whether two lists have entries that are equal in all fields.
+func SameEntries(a, b []api.Entry) bool {
+	return slices.EqualFunc(a, b, func(x, y api.Entry) bool {
+		same := x.Name == y.Name && x.By == y.By && slices.Equal(x.Says, y.Says)
+		return same && slices.Equal(x.Uses, y.Uses) && slices.Equal(x.Proof, y.Proof)
+	})
+}
+
 // Form returns the canonical form of a term, told number by number.
 func Form(t api.Term) api.Term {
 	vars := []int{}
