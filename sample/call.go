@@ -116,7 +116,16 @@ func (m Memory[X]) overwrite(t Test, name string, r any) {
 	if !apart {
 		t.Errorf("%s: two lists of the result share memory", name)
 	}
+	wipe(r)
+}
+
+// wipe overwrites the lists of a result that are not overwritten otherwise.
+func wipe(r any) {
 	switch p := r.(type) {
+	case []any:
+		for _, part := range p {
+			wipe(part)
+		}
 	case [][]int:
 		clear(p[:cap(p)])
 	case [][2]int:
@@ -128,6 +137,12 @@ func (m Memory[X]) overwrite(t Test, name string, r any) {
 	case []api.Change:
 		clear(p[:cap(p)])
 	case []api.Mark:
+		clear(p[:cap(p)])
+	case api.Sign:
+		clear(p[:cap(p)])
+	case []api.Line:
+		clear(p[:cap(p)])
+	case []byte:
 		clear(p[:cap(p)])
 	}
 }
@@ -180,6 +195,12 @@ func empty(r any) bool {
 	case []api.Change:
 		return len(x) == 0
 	case []api.Mark:
+		return len(x) == 0
+	case api.Sign:
+		return len(x) == 0
+	case []api.Line:
+		return len(x) == 0
+	case []byte:
 		return len(x) == 0
 	case api.Entry:
 		return x.Name == "" && x.By == "" && len(x.Says) == 0 && len(x.Uses) == 0 && len(x.Proof) == 0
